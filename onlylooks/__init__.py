@@ -1,0 +1,1 @@
+"""Onlylooks: rules over a whole database, kept with the fewest looks."""

@@ -1,0 +1,14 @@
+"""The limits that the document names [96]."""
+
+MAX_WORD = 8
+MAX_TABLES = 4
+MAX_COLUMNS = 3
+MAX_STATEMENTS = 5
+MAX_LEAST = 2
+MAX_MOST = 3
+MAX_ENTRIES = 3
+MAX_WANTED = 16
+MAX_PAPER = 6
+MAX_ANSWERS = 200
+MAX_OPEN = 8
+MAX_NAMES = 4

@@ -1,0 +1,160 @@
+"""The rules on form that a look at the code can tell: sizes, names, imports, calls."""
+
+import ast
+import builtins
+import pathlib
+import re
+import unittest
+
+PACKAGE = pathlib.Path(__file__).resolve().parent.parent / "onlylooks"
+
+BUILTINS = set(
+    "len range enumerate zip min max sum abs sorted reversed int str bool bytes list tuple dict set "
+    "frozenset isinstance ord repr any all divmod map iter next Exception ValueError TypeError "
+    "KeyError IndexError LookupError ZeroDivisionError ArithmeticError OverflowError RuntimeError "
+    "NotImplementedError AttributeError StopIteration NotImplemented property staticmethod "
+    "classmethod super".split())
+PYTHONS = {name for name in vars(builtins) if not name.startswith("_")}
+METHODS = set(
+    "append clear copy count endswith extend find get index insert isalnum isalpha isdigit islower "
+    "isspace isupper items join keys ljust lower lstrip partition pop remove replace reverse rfind "
+    "rjust rpartition rsplit rstrip setdefault split splitlines startswith strip update upper values "
+    "zfill bit_length encode decode add discard".split())
+SPECIAL = set(
+    "__init__ __eq__ __repr__ __str__ __len__ __enter__ __exit__ __call__ __iter__ __lt__ __le__ "
+    "__gt__ __ge__ __ne__ __add__ __sub__ __mul__ __floordiv__ __mod__ __pow__ __and__ __or__ "
+    "__xor__ __lshift__ __rshift__ __iadd__ __isub__ __ior__ __iand__ __neg__ __pos__ __invert__ "
+    "__abs__ __bool__ __contains__ __getitem__ __setitem__".split())
+BARRED = set(
+    "register mro elements open input law version_info with_traceback add_note attrgetter "
+    "breakpoint builtins compile copyright credits delattr dir eval exec exit gc getattr globals "
+    "hasattr help id importlib license locals methodcaller os quit setattr type vars".split())
+STATEMENTS = (
+    ast.Assign, ast.AugAssign, ast.If, ast.While, ast.For, ast.Return, ast.Break, ast.Continue,
+    ast.Pass, ast.Raise, ast.Assert, ast.Delete, ast.Nonlocal, ast.With, ast.Try, ast.Expr,
+    ast.FunctionDef, ast.ClassDef, ast.ImportFrom)
+
+
+def files():
+    return sorted(PACKAGE.glob("*.py"))
+
+
+def trees():
+    return [(path.name, ast.parse(path.read_text())) for path in files()]
+
+
+def nodes(*kinds):
+    """The tuples (file and line, node) of all nodes of some kinds."""
+    return [(f"{name}:{node.lineno}", node) for name, tree in trees()
+            for node in ast.walk(tree) if isinstance(node, kinds)]
+
+
+def own_names():
+    """The names of all functions, methods and classes of the package."""
+    return {node.name for _, node in nodes(ast.FunctionDef, ast.ClassDef)}
+
+
+class FormTest(unittest.TestCase):
+    def test_the_folder_has_plain_files_alone(self):
+        for path in PACKAGE.iterdir():
+            if path.name != "__pycache__":
+                self.assertRegex(path.name, r"\A[a-z0-9_]+\.py\Z")
+
+    def test_sizes_and_characters(self):
+        for path in files():
+            lines = path.read_text().split("\n")
+            self.assertLessEqual(len(lines), 400, path.name)
+            for number, line in enumerate(lines, 1):
+                self.assertLessEqual(len(line), 120, (path.name, number))
+                self.assertTrue(all(" " <= sign <= "~" for sign in line), (path.name, number))
+                self.assertIsNone(re.search(r"_wall|_WallAttr|\(type\)|Meta", line), (path.name, number))
+        for where, node in nodes(ast.FunctionDef):
+            self.assertLessEqual(node.end_lineno - node.lineno + 1, 40, where)
+
+    def test_module_level(self):
+        for name, tree in trees():
+            for node in tree.body:
+                is_doc = isinstance(node, ast.Expr) and isinstance(node.value, ast.Constant)
+                kinds = (ast.ImportFrom, ast.FunctionDef, ast.ClassDef, ast.Assign)
+                self.assertTrue(is_doc or isinstance(node, kinds), (name, node.lineno))
+
+    def test_imports_name_the_file_that_defines(self):
+        for where, node in nodes(ast.Import, ast.ImportFrom):
+            self.assertIsInstance(node, ast.ImportFrom, where)
+            self.assertEqual((node.level, node.module.split(".")[0]), (0, "onlylooks"), where)
+            tree = dict(trees())[node.module.split(".")[1] + ".py"]
+            bound = {each.name for each in tree.body if hasattr(each, "name")}
+            bound |= {each.targets[0].id for each in tree.body if isinstance(each, ast.Assign)}
+            for alias in node.names:
+                self.assertIn(alias.name, bound, where)
+                self.assertIsNone(alias.asname, where)
+
+    def test_imports_are_used(self):
+        for name, tree in trees():
+            used = {node.id for node in ast.walk(tree) if isinstance(node, ast.Name)}
+            for node in ast.walk(tree):
+                if isinstance(node, ast.ImportFrom):
+                    self.assertLessEqual({alias.name for alias in node.names}, used, name)
+
+    def test_names(self):
+        bound = [(where, node.name) for where, node in nodes(ast.FunctionDef, ast.ClassDef)]
+        bound += [(where, node.arg) for where, node in nodes(ast.arg)]
+        bound += [(where, node.id) for where, node in nodes(ast.Name) if isinstance(node.ctx, ast.Store)]
+        for where, name in bound:
+            self.assertNotIn(name, BARRED, where)
+            self.assertNotIn(name, PYTHONS, where)
+            if name.startswith("__"):
+                self.assertIn(name, SPECIAL, where)
+
+    def test_no_local_name_of_a_class_or_an_import(self):
+        for name, tree in trees():
+            taken = {node.name for node in ast.walk(tree) if isinstance(node, ast.ClassDef)}
+            taken |= {alias.name for node in tree.body if isinstance(node, ast.ImportFrom)
+                      for alias in node.names}
+            for node in ast.walk(tree):
+                if isinstance(node, ast.arg):
+                    self.assertNotIn(node.arg, taken, (name, node.lineno))
+                if isinstance(node, ast.Name) and isinstance(node.ctx, ast.Store):
+                    self.assertNotIn(node.id, taken, (name, node.lineno))
+
+    def test_builtins(self):
+        for where, node in nodes(ast.Name):
+            if node.id in PYTHONS:
+                self.assertIn(node.id, BUILTINS, where)
+
+    def test_methods(self):
+        for where, node in nodes(ast.Call):
+            if isinstance(node.func, ast.Attribute):
+                self.assertIn(node.func.attr, METHODS | own_names(), where)
+
+    def test_statements(self):
+        for where, node in nodes(ast.stmt):
+            self.assertIsInstance(node, STATEMENTS, where)
+        for where, node in nodes(ast.FunctionDef, ast.ClassDef):
+            for each in node.decorator_list:
+                self.assertIn(ast.unparse(each), ["property", "staticmethod", "classmethod"], where)
+
+    def test_truth_over_lists(self):
+        for where, node in nodes(ast.Call):
+            if isinstance(node.func, ast.Name) and node.func.id in ("any", "all", "sum", "sorted"):
+                self.assertNotIsInstance(node.args[0], ast.GeneratorExp, where)
+
+    def test_constants(self):
+        for where, node in nodes(ast.Constant):
+            self.assertNotIsInstance(node.value, float, where)
+            if isinstance(node.value, str):
+                self.assertNotIn("%", node.value, where)
+
+    def test_errors_are_created_on_the_spot(self):
+        for where, node in nodes(ast.Raise):
+            if node.exc is not None:
+                self.assertIsInstance(node.exc, ast.Call, where)
+                self.assertIsInstance(node.exc.func, ast.Name, where)
+
+    def test_len_and_items(self):
+        for where, node in nodes(ast.ClassDef):
+            methods = {each.name: each for each in node.body if isinstance(each, ast.FunctionDef)}
+            if "__getitem__" in methods:
+                self.assertIn("__iter__", methods, where)
+            if "__len__" in methods:
+                self.assertTrue(ast.unparse(methods["__len__"].body[-1]).startswith("return len("), where)

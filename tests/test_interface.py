@@ -1,0 +1,90 @@
+"""What the part "The interface" asks for: names, files, arguments, and methods of their own."""
+
+import importlib
+import inspect
+import unittest
+
+from onlylooks.databases import Database
+
+FILES = {
+    "tables": ["Table", "Schema"],
+    "databases": ["Database"],
+    "statements": ["Statement", "Rule", "Total"],
+    "rules": ["Rules"],
+    "facts": ["Fact", "Present", "Missing", "Counted", "Short", "Long"],
+}
+STATEMENT = {"__call__": "database", "counts": "database", "broken": "database", "__eq__": "other"}
+ROW_FACT = {"__init__": "table, row", "table": "", "row": "", "__call__": "database", "__eq__": "other"}
+STATEMENT_FACT = {"__init__": "statement", "statement": "", "__call__": "database", "__eq__": "other"}
+OWN = {
+    "Table": {"__init__": "name, *columns", "name": "", "columns": "", "marks": "",
+              "is_row": "value", "__eq__": "other"},
+    "Schema": {"__init__": "*tables", "names": "", "__getitem__": "at", "__contains__": "x",
+               "__len__": "", "__eq__": "other"},
+    "Database": {"schema": "", "__getitem__": "at", "__setitem__": "at, worth", "put": "name, *rows",
+                 "take": "name, *rows", "count": "name, words", "__len__": "", "copied": "",
+                 "is_within": "other", "__or__": "other", "__sub__": "other", "__ior__": "other",
+                 "__eq__": "other"},
+    "Statement": {"__call__": "database", "counts": "database", "broken": "database"},
+    "Rule": {
+        **STATEMENT,
+        "__init__": "table, other, pairs, least, most, *, where=None, other_where=None",
+        "table": "", "other": "", "pairs": "", "least": "", "most": "", "where": "",
+        "other_where": "", "key": "table, *columns",
+        "reference": "table, other, pairs, *, where=None",
+        "at_most": "table, other, pairs, most, *, where=None, other_where=None",
+        "exactly": "table, other, pairs, least, *, where=None, other_where=None",
+        "none": "table, other, pairs, *, where=None, other_where=None",
+    },
+    "Total": {**STATEMENT, "__init__": "table, least, most, *, where=None", "table": "",
+              "least": "", "most": "", "where": ""},
+    "Rules": {"__init__": "schema, *statements", "schema": "", "statements": "",
+              "keeps": "database", "broken": "database", "__len__": "", "__add__": "other",
+              "__eq__": "other"},
+    "Fact": {"__call__": "database"},
+    "Present": ROW_FACT,
+    "Missing": ROW_FACT,
+    "Counted": {"__init__": "table, words, least, most", "table": "", "words": "", "least": "",
+                "most": "", "__call__": "database", "__eq__": "other"},
+    "Short": STATEMENT_FACT,
+    "Long": STATEMENT_FACT,
+}
+STATIC = ["key", "reference", "at_most", "exactly", "none"]
+
+
+def each_class():
+    for file, names in FILES.items():
+        module = importlib.import_module("onlylooks." + file)
+        for name in names:
+            yield file, getattr(module, name)
+
+
+def parameters(method):
+    """The parameters of a property, a static method or a method, without the object itself."""
+    if isinstance(method, property):
+        method = method.fget
+    static = isinstance(method, staticmethod)
+    told = str(inspect.signature(method.__func__ if static else method))[1:-1]
+    return told if static else told.removeprefix("self").removeprefix(", ")
+
+
+class InterfaceTest(unittest.TestCase):
+    def test_each_class_is_defined_in_its_file(self):
+        for file, found in each_class():
+            self.assertTrue(inspect.isclass(found))
+            self.assertEqual(found.__module__, "onlylooks." + file)
+
+    def test_each_method_stands_in_the_class_itself(self):
+        for _, found in each_class():
+            for name, expected in OWN[found.__name__].items():
+                with self.subTest(found.__name__, method=name):
+                    method = vars(found)[name]
+                    self.assertEqual(parameters(method), expected)
+                    self.assertEqual(isinstance(method, staticmethod), name in STATIC)
+
+    def test_a_database_is_made_of_a_schema(self):
+        made = inspect.signature(Database)
+        self.assertEqual(list(made.parameters)[0], "schema")
+        rest = list(made.parameters.values())[1:]
+        self.assertTrue(all(each.kind is each.KEYWORD_ONLY for each in rest))
+
