@@ -266,6 +266,18 @@ class WholeDatabasesTest(unittest.TestCase):
             self.assertIs(self.made(one) == self.made(reversed(other)), same)
             self.assertIs(self.made(one) != self.made(other), not same)
 
+    def test_equal_in_whichever_way_the_rows_came(self):
+        database = self.made(self.ENTRIES[:2])
+        rows = [row for _, row in self.ENTRIES[:2]]
+        more = self.made(self.ENTRIES)
+        added = Database(two_tables())
+        added |= database
+        ways = [filled(two_tables(), one=rows), database.copied(), database | database, added,
+                more - self.made(self.ENTRIES[2:]), Database(two_tables()) | database]
+        for other in ways:
+            self.assertIs(database == other, True)
+            self.assertIs(other == database, True)
+
     def test_unlike_schemas_are_unlike_databases(self):
         other = Schema(Table("two", "k"), Table("one", "k", "m"))
         self.assertIs(Database(two_tables()) == Database(other), False)
@@ -320,6 +332,16 @@ class WholeDatabasesTest(unittest.TestCase):
             right.put("one", ("z", "z"))
             self.assertEqual(self.entries(left), set(one) | set(other) | {("two", ("z",))})
             self.assertEqual(self.entries(right), set(other) | {("one", ("z", "z"))})
+
+    def test_other_kinds_are_not_joined(self):
+        for value in (None, [], {}, two_tables()):
+            database = self.made(self.ENTRIES)
+            with self.assertRaises(TypeError):
+                database | value
+            with self.assertRaises(TypeError):
+                database - value
+            with self.assertRaises(TypeError):
+                database |= value
 
     def test_put_into_itself(self):
         database = self.made(self.ENTRIES[:3])
