@@ -4,10 +4,16 @@ import doctest
 import unittest
 
 from onlylooks.databases import Database
+from onlylooks.facts import Counted, Missing, Present
+from onlylooks.follows import follows, needless
+from onlylooks.papers import is_paper
+from onlylooks.possible import numbers, possible, wanted
 from onlylooks.rules import Rules
 from onlylooks.statements import Rule, Total
 from onlylooks.tables import Schema, Table
 
+NAMES = [Counted, Database, Missing, Present, Rule, Rules, Schema, Table, Total, follows, is_paper,
+         needless, numbers, possible, wanted]
 SECTIONS = {
     "section 2": """
 >>> item, shop = Table("item", "id", "at", ("kind", ["big", "small"])), Table("shop", "id")
@@ -28,13 +34,29 @@ SECTIONS = {
 >>> rules.broken(house)
 ((1, ('y',)), (2, ('x',)))
 """,
+    "section 4": """
+>>> rules = Rules(town, Rule.key("item", "id"), Rule.reference("item", "shop", [("at", "id")]), few, Total("shop", 0, 2))
+>>> facts = [Present("item", ("a", "x", "big")), Missing("shop", ("x",))]
+>>> [possible(rules, *facts), is_paper(rules, ("lack", 1, 0, (("closed", 5, 1),)), *facts), possible(rules, facts[0])["shop"]]
+[None, True, (('x',),)]
+>>> [len(possible(rules, Counted("item", {"kind": word}, 2, None))) for word in ("big", "small")]
+[4, 3]
+>>> [numbers(rules, "item", {"kind": "big"}, 4), wanted(rules, Counted("item", {"kind": "big"}, 4, None))]
+[(0, 1, 2), 8]
+>>> most_two = Total("item", 0, 2, where={"kind": ["big"]})
+>>> [follows(rules, most_two), needless(rules + Rules(town, most_two)), len(follows(rules, Rule.at_most("shop", "item", [("id", "at")], 1)))]
+[None, (4,), 3]
+>>> box, ball = Table("box", "id", ("lid", ["open", "shut"])), Table("ball", "id", "box")
+>>> some = [Rule.none("box", "ball", [("id", "box")], where={"lid": ["shut"]}), Rule.exactly("box", "ball", [("id", "box")], 2, where={"lid": ["open"]})]
+>>> numbers(Rules(Schema(box, ball), *some), "ball", {"box": "x"}, 3, Counted("box", {"id": "x"}, 1, 1))
+(0, 2)
+""",
 }
 
 
 class ExamplesTest(unittest.TestCase):
     def test_all_sections(self):
-        names = {"Database": Database, "Rule": Rule, "Rules": Rules, "Schema": Schema,
-                 "Table": Table, "Total": Total}
+        names = {each.__name__: each for each in NAMES}
         for section, text in SECTIONS.items():
             told = []
             test = doctest.DocTestParser().get_doctest(text, names, section, None, 0)

@@ -12,6 +12,14 @@ FILES = {
     "statements": ["Statement", "Rule", "Total"],
     "rules": ["Rules"],
     "facts": ["Fact", "Present", "Missing", "Counted", "Short", "Long"],
+    "changes": ["Change"],
+}
+FUNCTIONS = {
+    "possible": {"possible": "rules, *facts", "wanted": "rules, *facts",
+                 "numbers": "rules, table, words, limit, *facts"},
+    "papers": {"paper": "rules, *facts", "is_paper": "rules, value, *facts"},
+    "follows": {"follows": "rules, statement", "covers": "rules, others", "needless": "rules",
+                "core": "rules", "barren": "rules"},
 }
 STATEMENT = {"__call__": "database", "counts": "database", "broken": "database", "__eq__": "other"}
 ROW_FACT = {"__init__": "table, row", "table": "", "row": "", "__call__": "database", "__eq__": "other"}
@@ -48,6 +56,8 @@ OWN = {
                 "most": "", "__call__": "database", "__eq__": "other"},
     "Short": STATEMENT_FACT,
     "Long": STATEMENT_FACT,
+    "Change": {"__init__": "schema, put, taken", "schema": "", "put_rows": "", "taken_rows": "",
+               "fits": "database", "on": "database", "contrary": "", "__eq__": "other", "__len__": ""},
 }
 STATIC = ["key", "reference", "at_most", "exactly", "none"]
 
@@ -81,6 +91,16 @@ class InterfaceTest(unittest.TestCase):
                     method = vars(found)[name]
                     self.assertEqual(parameters(method), expected)
                     self.assertEqual(isinstance(method, staticmethod), name in STATIC)
+
+    def test_each_function_is_defined_in_its_file(self):
+        for file, told in FUNCTIONS.items():
+            module = importlib.import_module("onlylooks." + file)
+            for name, expected in told.items():
+                with self.subTest(name):
+                    found = getattr(module, name)
+                    self.assertTrue(inspect.isfunction(found))
+                    self.assertEqual(found.__module__, module.__name__)
+                    self.assertEqual(str(inspect.signature(found)), f"({expected})")
 
     def test_a_database_is_made_of_a_schema(self):
         made = inspect.signature(Database)
