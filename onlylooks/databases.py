@@ -24,6 +24,13 @@ def check_equal(one, other):
         raise OtherSchema()
 
 
+def matching(database, name, words, where):
+    """How many rows of a table fit words and fit a where, too, both dicts as [12] tells."""
+    table = database.schema[name]
+    rows = [row for row in database[name] if row_fits(table, row, words)]
+    return len([row for row in rows if row_fits(table, row, where)])
+
+
 class Database:
     """The rows of each table of a schema, at first none."""
 

@@ -3,7 +3,7 @@
 from onlylooks.databases import check_equal
 from onlylooks.errors import Misfit
 from onlylooks.facts import Counted, Long, Short
-from onlylooks.possible import check_wanted, found
+from onlylooks.possible import any_database, check_wanted, possible
 from onlylooks.rules import Rules
 from onlylooks.statements import is_statement
 
@@ -30,15 +30,20 @@ def follows(rules, statement):
     if not is_statement(statement, rules.schema):
         raise Misfit(0)
     check_breaches(rules, [statement])
-    databases = [found(rules, [fact]) for fact in breaches(statement)]
+    databases = [possible(rules, fact) for fact in breaches(statement)]
     return min([each for each in databases if each is not None], key=len, default=None)
+
+
+def is_kept_by(rules, statement):
+    """Whether each database that keeps rules keeps a statement, too."""
+    return all([any_database(rules, [fact]) is None for fact in breaches(statement)])
 
 
 def covers(rules, others):
     """Whether all statements of other Rules follow from rules."""
     check_equal(rules.schema, others.schema)
     check_breaches(rules, others.statements)
-    return all([follows(rules, statement) is None for statement in others.statements])
+    return all([is_kept_by(rules, statement) for statement in others.statements])
 
 
 def without(rules, index):
@@ -49,7 +54,7 @@ def without(rules, index):
 
 def follows_from_others(rules, index):
     """Whether the statement with an index follows from the other ones."""
-    return follows(without(rules, index), rules.statements[index]) is None
+    return is_kept_by(without(rules, index), rules.statements[index])
 
 
 def needless(rules):
@@ -73,4 +78,4 @@ def barren(rules):
     facts = {name: Counted(name, {}, 1, None) for name in rules.schema.names}
     for name in facts:
         check_wanted(rules, [facts[name]])
-    return tuple([name for name in facts if found(rules, [facts[name]]) is None])
+    return tuple([name for name in facts if any_database(rules, [facts[name]]) is None])

@@ -3,7 +3,7 @@
 from onlylooks.asks import Problem
 from onlylooks.errors import TooMany
 from onlylooks.limits import MAX_PAPER
-from onlylooks.possible import check_wanted, found
+from onlylooks.possible import any_database, check_wanted
 from onlylooks.searches import open_ways
 from onlylooks.states import closings, first_state, is_open, lacks, ways
 from onlylooks.values import is_integer
@@ -22,12 +22,12 @@ def numbered(state):
 
 def shortest_lack(problem, state):
     """The tuple (ask, at) of the lack that has the fewest ways to states that are not closed."""
-    found_lacks = [(ask, at) for ask, at, _ in lacks(problem, state)]
+    lacking = [(ask, at) for ask, at, _ in lacks(problem, state)]
     many = [
         (len(open_ways(problem, state, ask, at)), len(ways(problem, state, ask, at)))
-        for ask, at in found_lacks
+        for ask, at in lacking
     ]
-    return found_lacks[many.index(min(many))]
+    return lacking[many.index(min(many))]
 
 
 def paper_for(problem, state, papers):
@@ -49,7 +49,7 @@ def paper(rules, *facts):
     """A paper that shows that no database keeps rules and has facts; None if there is one."""
     if check_wanted(rules, facts) > MAX_PAPER:
         raise TooMany(MAX_PAPER)
-    if found(rules, facts) is not None:
+    if any_database(rules, facts) is not None:
         return None
     problem = Problem(rules, facts)
     return paper_for(problem, first_state(problem), {})

@@ -104,17 +104,22 @@ def database_of(schema, problem, rows):
     return database
 
 
-def found(rules, facts):
-    """What possible tells, for facts that are let."""
+def searched(rules, facts, is_for_fewest):
+    """A Database that keeps rules and has facts, with the fewest rows or any; None if there is none."""
     problem = Problem(rules, facts)
-    state = Search(problem).found()
+    state = Search(problem, is_for_fewest).end()
     return None if state is None else database_of(rules.schema, problem, state[0])
+
+
+def any_database(rules, facts):
+    """Any Database that keeps rules and has facts that are let; None if there is none."""
+    return searched(rules, facts, False)
 
 
 def possible(rules, *facts):
     """A database with the fewest rows that keeps rules and has facts; None if there is none."""
     check_wanted(rules, facts)
-    return found(rules, facts)
+    return searched(rules, facts, True)
 
 
 def numbers(rules, table, words, limit, *facts):
@@ -123,5 +128,5 @@ def numbers(rules, table, words, limit, *facts):
     bounds = [(number, number) for number in range(limit)]
     return tuple([
         least for least, most in [*bounds, (limit, None)]
-        if found(rules, [Counted(table, words, least, most), *facts]) is not None
+        if any_database(rules, [Counted(table, words, least, most), *facts]) is not None
     ])

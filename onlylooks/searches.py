@@ -1,18 +1,9 @@
-"""The search for a state with the fewest rows that lacks nothing and is not closed [32]."""
+"""The search for a state that lacks nothing and is not closed, with the fewest rows or any [32]."""
 
+from onlylooks.bounds import more_rows
 from onlylooks.shapes import shape
-from onlylooks.states import first_state, is_closed, is_unchosen, lacks, rows_by_joining, ways
+from onlylooks.states import first_state, is_closed, lacks, ways
 from onlylooks.twins import twins_of
-
-
-def more_rows(state, lacking):
-    """How many rows have to come in at least: for each table those that one of its lacks asks for."""
-    more = {}
-    for ask, at, many in lacking:
-        if not is_unchosen(ask, state):
-            new = many - len(rows_by_joining(ask, state[0], at))
-            more[ask.target] = max(more.get(ask.target, 0), new)
-    return sum(list(more.values()))
 
 
 def open_ways(problem, state, ask, at):
@@ -35,8 +26,9 @@ def fewest_ways(problem, state, lacking):
 class Search:
     """The states that wait to be looked at, in piles by how many rows they come to at least."""
 
-    def __init__(self, problem):
+    def __init__(self, problem, is_for_fewest):
         self._problem = problem
+        self._is_for_fewest = is_for_fewest
         self._twins = twins_of(problem)
         self._piles = {}
         self._seen = {}
@@ -47,11 +39,13 @@ class Search:
         if state not in self._seen:
             self._seen[state] = True
             lacking = lacks(self._problem, state)
-            rows = max(rows, len(state[0]) + more_rows(state, lacking))
+            # On one pile alone, the search goes straight to an end, however many rows it has.
+            if self._is_for_fewest:
+                rows = max(rows, len(state[0]) + more_rows(state, lacking))
             self._piles.setdefault(rows, []).append((state, lacking))
 
-    def found(self):
-        """A state with the fewest rows that lacks nothing and is not closed; None if there is none."""
+    def end(self):
+        """A state that lacks nothing and is not closed; None if there is none."""
         first = first_state(self._problem)
         if is_closed(self._problem, first):
             return None

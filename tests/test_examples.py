@@ -1,10 +1,14 @@
 """The examples of the document, word for word, each section going on from the one before."""
 
 import doctest
+import re
 import unittest
 
+from onlylooks.changes import Change
 from onlylooks.databases import Database
+from onlylooks.demands import demands
 from onlylooks.facts import Counted, Missing, Present
+from onlylooks.fields import Field
 from onlylooks.follows import follows, needless
 from onlylooks.papers import is_paper
 from onlylooks.possible import numbers, possible, wanted
@@ -12,8 +16,8 @@ from onlylooks.rules import Rules
 from onlylooks.statements import Rule, Total
 from onlylooks.tables import Schema, Table
 
-NAMES = [Counted, Database, Missing, Present, Rule, Rules, Schema, Table, Total, follows, is_paper,
-         needless, numbers, possible, wanted]
+NAMES = [Change, Counted, Database, Field, Missing, Present, Rule, Rules, Schema, Table, Total, demands,
+         follows, is_paper, needless, numbers, possible, wanted]
 SECTIONS = {
     "section 2": """
 >>> item, shop = Table("item", "id", "at", ("kind", ["big", "small"])), Table("shop", "id")
@@ -51,6 +55,20 @@ SECTIONS = {
 >>> numbers(Rules(Schema(box, ball), *some), "ball", {"box": "x"}, 3, Counted("box", {"id": "x"}, 1, 1))
 (0, 2)
 """,
+    "section 5": """
+schema = Schema(Table("item", "name", "owner"), Table("owner", "name"))
+rules = Rules(schema, Rule("item", "owner", [("owner", "name")], 1, 1), Rule("owner", "item", [("name", "owner")], 0, 2))
+change = Change(schema, [("item", ("a", "x"))], [])
+>>> [(each.rule_index, each.at, each.shift, each.other_shift) for each in demands(rules, change)]
+[(0, ('x',), 1, 0), (1, ('x',), 0, 1)]
+""",
+    "section 6": """
+field = Field(rules, change)
+>>> [(each.table, each.words, each.most) for each in field.looks]
+[('owner', {'name': 'x'}, 2), ('item', {'owner': 'x'}, 2)]
+>>> [field.answers(), field.verdict, [field.is_kept(answer) for answer in field.answers()]]
+[[(0, 0), (1, 0), (1, 1), (1, 2)], 'open', [False, True, True, False]]
+""",
 }
 
 
@@ -59,6 +77,8 @@ class ExamplesTest(unittest.TestCase):
         names = {each.__name__: each for each in NAMES}
         for section, text in SECTIONS.items():
             told = []
+            # Lines that only assign stand in the document without a prompt.
+            text = re.sub(r"^(?=[a-z]+ = )", ">>> ", text, flags=re.MULTILINE)
             test = doctest.DocTestParser().get_doctest(text, names, section, None, 0)
             result = doctest.DocTestRunner(verbose=False).run(test, out=told.append, clear_globs=False)
             names = test.globs

@@ -13,6 +13,9 @@ FILES = {
     "rules": ["Rules"],
     "facts": ["Fact", "Present", "Missing", "Counted", "Short", "Long"],
     "changes": ["Change"],
+    "demands": ["Demand"],
+    "looks": ["Look"],
+    "fields": ["Field"],
 }
 FUNCTIONS = {
     "possible": {"possible": "rules, *facts", "wanted": "rules, *facts",
@@ -20,6 +23,8 @@ FUNCTIONS = {
     "papers": {"paper": "rules, *facts", "is_paper": "rules, value, *facts"},
     "follows": {"follows": "rules, statement", "covers": "rules, others", "needless": "rules",
                 "core": "rules", "barren": "rules"},
+    "demands": {"demands": "rules, change"},
+    "looks": {"looks": "rules, change"},
 }
 STATEMENT = {"__call__": "database", "counts": "database", "broken": "database", "__eq__": "other"}
 ROW_FACT = {"__init__": "table, row", "table": "", "row": "", "__call__": "database", "__eq__": "other"}
@@ -58,6 +63,12 @@ OWN = {
     "Long": STATEMENT_FACT,
     "Change": {"__init__": "schema, put, taken", "schema": "", "put_rows": "", "taken_rows": "",
                "fits": "database", "on": "database", "contrary": "", "__eq__": "other", "__len__": ""},
+    "Demand": {"schema": "", "rule_index": "", "statement": "", "at": "", "shift": "",
+               "other_shift": "", "__call__": "database", "__eq__": "other"},
+    "Look": {"table": "", "words": "", "where": "", "most": "", "__call__": "database", "__eq__": "other"},
+    "Field": {"__init__": "rules, change", "looks": "", "demands": "", "answers": "", "__len__": "",
+              "__iter__": "", "is_answer": "value", "facts": "answer", "__getitem__": "at",
+              "holds": "number, answer", "is_kept": "answer", "verdict": "", "standing": "number"},
 }
 STATIC = ["key", "reference", "at_most", "exactly", "none"]
 

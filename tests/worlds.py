@@ -2,6 +2,7 @@
 
 from itertools import combinations, product
 
+from onlylooks.changes import Change
 from onlylooks.databases import Database
 from onlylooks.errors import Circle
 from onlylooks.facts import Counted, Long, Missing, Present, Short
@@ -118,3 +119,13 @@ class Maker:
             return Long(statement)
         least = chance.choice([0, 1, 1, 2, 3])
         return Counted(table.name, self.words(table, names), least, chance.choice([None, least, least + 1]))
+
+    def change(self, schema, names):
+        chance, entries = self.source, []
+        for _ in range(chance.randint(1, 3)):
+            table = schema[chance.choice(schema.names)]
+            entry = (table.name, self.row(table, names))
+            if entry not in entries:
+                entries.append(entry)
+        put = chance.randint(0, len(entries))
+        return Change(schema, entries[:put], entries[put:])

@@ -1,0 +1,189 @@
+"""The field of a change: all answers that databases give to its looks [52] to [54]."""
+
+from onlylooks.demands import demands, is_met
+from onlylooks.errors import InvalidAnswer, NoAnswer, OutOfRange, TooMany
+from onlylooks.facts import Counted, Missing, Present
+from onlylooks.limits import MAX_ANSWERS
+from onlylooks.looks import index_of, look_ahead, looks_of, other_look
+from onlylooks.possible import any_database, check_wanted
+from onlylooks.statements import Total
+from onlylooks.values import is_integer
+
+
+def words_of_look(look):
+    """The words of a Counted that counts what a look asks for."""
+    words, where = look.words, look.where
+    for column in where:
+        words[column] = list(where[column])
+    return words
+
+
+def fact_of(look, value):
+    """The fact that a database gives this answer to a look."""
+    return Counted(look.table, words_of_look(look), value, None if value == look.most else value)
+
+
+def facts_of_change(change):
+    """The facts that a change fits a database."""
+    return [
+        *[Present(name, row) for name, row in change.taken_rows],
+        *[Missing(name, row) for name, row in change.put_rows],
+    ]
+
+
+def check_size(rules, change, told):
+    """Raises TooMany if looks have too many answers, or want too many rows."""
+    many = 1
+    for look in told:
+        many = many * (look.most + 1)
+    if many > MAX_ANSWERS:
+        raise TooMany(MAX_ANSWERS)
+    taken = [Present(name, row) for name, row in change.taken_rows]
+    check_wanted(rules, [*taken, *[fact_of(look, look.most) for look in told]])
+
+
+class Answers:
+    """A search for all answers to looks, with a database for each, where facts hold beside rules."""
+
+    def __init__(self, rules, facts, told):
+        self._rules = rules
+        self._facts = facts
+        self._looks = told
+        self.databases = {}
+
+    def _is_begun(self, begun):
+        """Whether a database gives answers that begin so: one that was met before, or another one."""
+        if any([answer[:len(begun)] == begun for answer in self.databases]):
+            return True
+        counted = [fact_of(look, value) for look, value in zip(self._looks, begun)]
+        database = any_database(self._rules, [*self._facts, *counted])
+        if database is not None:
+            self.databases[tuple([look(database) for look in self._looks])] = database
+        return database is not None
+
+    def go_on(self, begun):
+        """Goes through all answers that begin so; with none of them if no database gives one."""
+        if self._is_begun(begun) and len(begun) < len(self._looks):
+            for value in range(self._looks[len(begun)].most + 1):
+                self.go_on((*begun, value))
+
+
+def databases_by_answer(rules, facts, told):
+    """A dict from all answers to looks, ascending, to a database that gives each one."""
+    search = Answers(rules, facts, told)
+    search.go_on(())
+    return {answer: search.databases[answer] for answer in sorted(list(search.databases))}
+
+
+def value_of(look, told, answer):
+    """What an answer tells of a look; 0 for one that is left out."""
+    return 0 if look is None else answer[index_of(look, told)]
+
+
+def holds_for(demand, told, answer):
+    """Whether a demand holds where the looks that are told have these answers."""
+    is_total = isinstance(demand.statement, Total)
+    many = 1 if is_total else value_of(look_ahead(demand), told, answer)
+    return is_met(demand, many, value_of(other_look(demand), told, answer))
+
+
+def standing_of(truths):
+    """How something stands that holds for some answers, and for others does not."""
+    if not truths:
+        return "unfit"
+    if all(truths):
+        return "always"
+    return "open" if any(truths) else "never"
+
+
+class Field:
+    """All answers that some database gives which keeps rules and which a change fits."""
+
+    def __init__(self, rules, change):
+        self._demands = demands(rules, change)
+        self._looks = looks_of(self._demands)
+        check_size(rules, change, self._looks)
+        self._facts = facts_of_change(change)
+        self._databases = databases_by_answer(rules, self._facts, self._looks)
+        self._truths = {
+            answer: [holds_for(demand, self._looks, answer) for demand in self._demands]
+            for answer in self._databases
+        }
+
+    @property
+    def looks(self):
+        """The looks of the change, a tuple."""
+        return self._looks
+
+    @property
+    def demands(self):
+        """The demands of the change, a tuple."""
+        return self._demands
+
+    @property
+    def verdict(self):
+        """unfit, never, always or open: for which answers all demands hold."""
+        return standing_of([all(self._truths[answer]) for answer in self._truths])
+
+    def answers(self):
+        """A list of all answers, ascending."""
+        return list(self._databases)
+
+    def is_answer(self, value):
+        """Whether any value is one of the answers."""
+        return self._is_told(value) and value in self._databases
+
+    def _is_told(self, value):
+        """Whether any value is a tuple with an integer from 0 to its most for each look."""
+        if not isinstance(value, tuple) or len(value) != len(self._looks):
+            return False
+        return all([
+            is_integer(number) and 0 <= number <= look.most
+            for number, look in zip(value, self._looks)
+        ])
+
+    def facts(self, answer):
+        """The list of facts that a database has exactly if the change fits it and it answers so."""
+        if not self._is_told(answer):
+            raise InvalidAnswer(answer)
+        return [*self._facts, *[fact_of(look, value) for look, value in zip(self._looks, answer)]]
+
+    def holds(self, number, answer):
+        """Whether the demand with an index holds for an answer."""
+        self._check_index(number)
+        self._check_answer(answer)
+        return self._truths[answer][number]
+
+    def is_kept(self, answer):
+        """Whether all demands hold for an answer."""
+        self._check_answer(answer)
+        return all(self._truths[answer])
+
+    def standing(self, number):
+        """unfit, sure, refused or open: for which answers the demand with an index holds."""
+        self._check_index(number)
+        told = standing_of([self._truths[answer][number] for answer in self._truths])
+        return {"always": "sure", "never": "refused"}.get(told, told)
+
+    def _check_index(self, number):
+        """Raises OutOfRange for any value that is no index of a demand."""
+        if not is_integer(number) or not 0 <= number < len(self._demands):
+            raise OutOfRange(number)
+
+    def _check_answer(self, answer):
+        """Raises NoAnswer for any value that is none of the answers."""
+        if not self.is_answer(answer):
+            raise NoAnswer(answer)
+
+    def __getitem__(self, at):
+        """A new database that keeps the rules and gives an answer."""
+        if not self.is_answer(at):
+            raise NoAnswer(at)
+        return self._databases[at].copied()
+
+    # Without this, Python would go over a field by indexes.
+    def __iter__(self):
+        raise TypeError("a field is not iterated over")
+
+    def __len__(self):
+        return len(self._databases)
