@@ -29,7 +29,6 @@ def follows(rules, statement):
     """A database with the fewest rows that keeps rules, but not a statement; None if there is none."""
     if not is_statement(statement, rules.schema):
         raise Misfit(0)
-    check_breaches(rules, [statement])
     databases = [possible(rules, fact) for fact in breaches(statement)]
     return min([each for each in databases if each is not None], key=len, default=None)
 

@@ -4,8 +4,7 @@ from onlylooks.asks import Problem
 from onlylooks.errors import TooMany
 from onlylooks.limits import MAX_PAPER
 from onlylooks.possible import any_database, check_wanted
-from onlylooks.searches import open_ways
-from onlylooks.states import closings, first_state, is_open, lacks, ways
+from onlylooks.states import closings, first_state, is_closed, is_open, lacks, ways
 from onlylooks.values import is_integer
 
 
@@ -21,11 +20,13 @@ def numbered(state):
 
 
 def shortest_lack(problem, state):
-    """The tuple (ask, at) of the lack that has the fewest ways to states that are not closed."""
-    lacking = [(ask, at) for ask, at, _ in lacks(problem, state)]
+    """The tuple (number, at, states behind its ways) of the lack with the fewest that are not closed."""
+    lacking = [(ask.number, at, ways(problem, state, ask, at)) for ask, at, _ in lacks(problem, state)]
+    if len(lacking) == 1:
+        return lacking[0]
     many = [
-        (len(open_ways(problem, state, ask, at)), len(ways(problem, state, ask, at)))
-        for ask, at in lacking
+        (len([each for each in states if not is_closed(problem, each)]), len(states))
+        for _, _, states in lacking
     ]
     return lacking[many.index(min(many))]
 
@@ -39,9 +40,9 @@ def paper_for(problem, state, papers):
             number, at = closed[0]
             papers[state] = ("closed", number, at)
         else:
-            ask, at = shortest_lack(problem, state)
-            told = [paper_for(problem, each, papers) for each in ways(problem, state, ask, at)]
-            papers[state] = ("lack", ask.number, at, tuple(told))
+            number, at, states = shortest_lack(problem, state)
+            told = [paper_for(problem, each, papers) for each in states]
+            papers[state] = ("lack", number, at, tuple(told))
     return papers[state]
 
 

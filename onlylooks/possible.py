@@ -64,12 +64,12 @@ def check_wanted(rules, facts):
 
 
 def word_of(number):
-    """The word with a number: a, b, .., z, aa, ab, .."""
-    word = LETTERS[number % len(LETTERS)]
-    number = number // len(LETTERS)
-    while number > 0:
-        word = LETTERS[(number - 1) % len(LETTERS)] + word
-        number = (number - 1) // len(LETTERS)
+    """The word that a number is written as, with letters for digits."""
+    many = len(LETTERS)
+    word = LETTERS[number % many]
+    while number >= many:
+        number = number // many
+        word = LETTERS[number % many] + word
     return word
 
 

@@ -1,26 +1,20 @@
 """The search for a state that lacks nothing and is not closed, with the fewest rows or any [32]."""
 
-from onlylooks.bounds import more_rows
+from onlylooks.bounds import Lack, more_rows
 from onlylooks.shapes import shape
 from onlylooks.states import first_state, is_closed, lacks, ways
 from onlylooks.twins import twins_of
 
 
-def open_ways(problem, state, ask, at):
-    """The states to which the ways of a lack lead, without those that are closed."""
-    return [each for each in ways(problem, state, ask, at) if not is_closed(problem, each)]
-
-
-def fewest_ways(problem, state, lacking):
-    """The states to which the lack with the fewest ways that are not closed leads."""
-    fewest = None
-    for ask, at, _ in lacking:
-        found = open_ways(problem, state, ask, at)
-        if fewest is None or len(found) < len(fewest):
-            fewest = found
-        if len(fewest) <= 1:
-            return fewest
-    return fewest
+def lacks_with_ways(problem, state):
+    """The Lacks of a state; one alone if it has no way to a state that is not closed."""
+    found = []
+    for ask, at, missing in lacks(problem, state):
+        states = [each for each in ways(problem, state, ask, at) if not is_closed(problem, each)]
+        found.append(Lack(ask, at, missing, states))
+        if not states:
+            return found[-1:]
+    return found
 
 
 class Search:
@@ -28,37 +22,52 @@ class Search:
 
     def __init__(self, problem, is_for_fewest):
         self._problem = problem
+        # Otherwise there is one pile alone: the search goes straight to an end.
         self._is_for_fewest = is_for_fewest
         self._twins = twins_of(problem)
         self._piles = {}
         self._seen = {}
 
-    def wait(self, state, rows):
-        """Has a state wait, if none like it was met before; it comes to so many rows at least."""
+    def _wait(self, state, lacking, rows):
+        """Has a state wait, on the pile for so many rows."""
+        pile = rows if self._is_for_fewest else 0
+        self._piles.setdefault(pile, []).append((state, lacking))
+
+    def _next(self):
+        """The tuple (state, lacking, rows) of the state that comes to the fewest rows."""
+        rows = min(list(self._piles))
+        # The state that was met last is the nearest to an end.
+        state, lacking = self._piles[rows].pop()
+        if not self._piles[rows]:
+            del self._piles[rows]
+        return state, lacking, rows
+
+    def _meet(self, state, rows):
+        """Has a state wait that comes to so many rows at least, if none like it was met before."""
         state = shape(state, self._twins)
         if state not in self._seen:
             self._seen[state] = True
-            lacking = lacks(self._problem, state)
-            # On one pile alone, the search goes straight to an end, however many rows it has.
-            if self._is_for_fewest:
-                rows = max(rows, len(state[0]) + more_rows(state, lacking))
-            self._piles.setdefault(rows, []).append((state, lacking))
+            self._wait(state, None, max([rows, len(state[0])]))
+
+    def _go_on(self, state, lacking, rows):
+        """Goes on to the states behind the ways of the lack that has the fewest."""
+        need = len(state[0]) + more_rows(lacking, state[0]) if self._is_for_fewest else rows
+        if need > rows:
+            self._wait(state, lacking, need)
+            return
+        for each in min([lack.states for lack in lacking], key=len):
+            self._meet(each, rows)
 
     def end(self):
         """A state that lacks nothing and is not closed; None if there is none."""
         first = first_state(self._problem)
-        if is_closed(self._problem, first):
-            return None
-        self.wait(first, 0)
+        if not is_closed(self._problem, first):
+            self._meet(first, 0)
         while self._piles:
-            fewest = min(list(self._piles))
-            pile = self._piles[fewest]
-            # The state that was met last is the nearest to an end.
-            state, lacking = pile.pop()
-            if not pile:
-                del self._piles[fewest]
+            state, lacking, rows = self._next()
+            if lacking is None:
+                lacking = lacks_with_ways(self._problem, state)
             if not lacking:
                 return state
-            for each in fewest_ways(self._problem, state, lacking):
-                self.wait(each, fewest)
+            self._go_on(state, lacking, rows)
         return None
