@@ -6,9 +6,9 @@ from onlylooks.states import asked_of, is_open
 class Lack:
     """A lack of a state, with how many rows are missing, and the states behind its ways."""
 
-    def __init__(self, ask, at, missing, states):
+    def __init__(self, ask, site, missing, states):
         self.ask = ask
-        self.at = at
+        self.site = site
         self.missing = missing
         self.states = states
 
@@ -17,9 +17,9 @@ def words_asked(lack, rows):
     """The tuples (spot, words) for what rows of a lack have to have; at spot 0 is their table."""
     ask = lack.ask
     # At a chosen row, rows are to count; ahead of that, a row is to be chosen.
-    if ask.slot is not None and lack.at is None:
+    if ask.slot is not None and lack.site is None:
         return [(0, (ask.home,)), *ask.home_checks]
-    known = [(spot, (entry,)) for spot, entry in asked_of(ask, rows, lack.at) if not is_open(entry)]
+    known = [(spot, (entry,)) for spot, entry in asked_of(ask, rows, lack.site) if not is_open(entry)]
     return [(0, (ask.target,)), *ask.checks, *known]
 
 
@@ -34,10 +34,10 @@ def have_unlike_words(one, other):
 
 def are_unlike_homes(one, other, rows):
     """Whether two lacks of one Ask are at rows that would be equal if one row counted at both."""
-    if one.ask.number != other.ask.number or one.at is None or one.at == other.at:
+    if one.ask.number != other.ask.number:
         return False
     joined = [first for first, _ in one.ask.joins]
-    pairs = list(zip(rows[one.at], rows[other.at]))
+    pairs = list(zip(rows[one.site], rows[other.site]))
     return all([spot in joined for spot, (entry, another) in enumerate(pairs) if entry != another])
 
 

@@ -134,6 +134,15 @@ class FormTest(unittest.TestCase):
             for each in node.decorator_list:
                 self.assertIn(ast.unparse(each), ["property", "staticmethod", "classmethod"], where)
 
+    def test_properties_are_not_assigned_and_no_methods(self):
+        methods = [each for _, each in nodes(ast.FunctionDef) if each.args.args and each.args.args[0].arg == "self"]
+        told = {each.name for each in methods if each.decorator_list}
+        plain = {each.name for each in methods if not each.decorator_list}
+        self.assertFalse(told & plain)
+        for where, node in nodes(ast.Attribute):
+            if isinstance(node.ctx, ast.Store):
+                self.assertNotIn(node.attr, told | plain, where)
+
     def test_truth_over_lists(self):
         for where, node in nodes(ast.Call):
             if isinstance(node.func, ast.Name) and node.func.id in ("any", "all", "sum", "sorted"):

@@ -211,15 +211,38 @@ class LackTest(PapersTest):
         self.right([OWNED], facts, lack(2, None, lack(0, 1, closed(3, 1), closed(4))))
 
     def test_an_open_name_meets_an_open_name(self):
-        facts = [Counted("shop", {}, 1, 1), Counted("item", {"id": "a", "kind": "big"}, 1, None), Short(OWNED)]
-        ways = lack(0, 1, closed(3, 1), closed(1))
-        self.wrong([OWNED], facts, lack(1, None, lack(2, None, ways)))
-        chosen = lack(3, None, lack(0, 1, closed(3, 1), closed(1)), lack(0, 1, lack(0, 2, closed(3, 2), closed(1)), closed(1)))
-        self.wrong([OWNED], facts, lack(1, None, lack(2, None, chosen)))
         small = [Counted("shop", {}, 1, 1), Counted("item", {}, 1, 1), Counted("item", {"id": "a", "kind": "big"}, 1, 1), Short(OWNED)]
         # The row to be chosen: the one that is there, then a new one with each mark.
         end = lack(4, None, lack(0, 1, closed(4, 1), closed(1)), closed(2), closed(2))
         self.right([OWNED], small, lack(1, None, lack(3, None, end)))
+
+    def test_names_become_others_one_after_the_other(self):
+        """The row of u has an open name and a word; x asks for one open name in both."""
+        schema = Schema(Table("t", "a", "b"), Table("u", "a", "b"))
+        rule = Rule.reference("t", "u", [("a", "a"), ("b", "b")])
+        facts = [Counted("t", {}, 1, 1), Counted("u", {"b": "w"}, 1, None), Counted("u", {}, 1, 1),
+                 Long(Rule.none("t", "t", [("a", "b")])), Missing("u", ("w", "w"))]
+        met = lack(0, 0, closed(5, 1), closed(3))
+        self.right([rule], facts, lack(1, None, lack(2, None, lack(4, None, lack(4, 0, met, closed(1)), closed(1)))), schema=schema)
+        turned = [facts[0], Counted("u", {"a": "w"}, 1, None), *facts[2:]]
+        self.right([rule], turned, lack(1, None, lack(2, None, lack(4, None, lack(4, 0, met, closed(1)), closed(1)))), schema=schema)
+
+    def test_rows_to_be_chosen_for_several_facts(self):
+        """Each fact has a row of its own, in whichever order they are chosen."""
+        schema = Schema(Table("t", ("a", ["p", "q"])), Table("u", ("a", ["p", "q"])))
+        rule = Rule("t", "u", [("a", "a")], 1, 1)
+        facts = [Present("t", ("p",)), Present("t", ("q",)), Short(rule), Long(rule), Counted("u", {}, 2, 2)]
+        # Whichever row has too many, u is not large enough for two rows with one mark.
+        long = lack(3, None, lack(3, 0, lack(3, 0)), lack(3, 1, lack(3, 1)))
+        self.right([], facts, long, lack(2, None, long, long), schema=schema)
+        first = [lack(3, at, lack(3, at)) for at in (0, 1)]
+        self.right([], facts, lack(3, None, lack(2, None, first[0], first[0]), lack(2, None, first[1], first[1])), schema=schema)
+        three = [*facts[:2], Short(rule), Short(rule), Present("u", ("p",)), Present("u", ("q",))]
+        each = lack(3, None, closed(3, 0), closed(3, 1))
+        self.assertTrue(is_paper(Rules(schema), lack(2, None, closed(2, 0), closed(2, 1)), *three))
+        self.assertTrue(is_paper(Rules(schema), lack(2, None, each, each), *three))
+        self.assertTrue(is_paper(Rules(schema), lack(3, None, lack(2, None, closed(3, 0), closed(3, 0)), lack(2, None, closed(3, 1), closed(2, 1))), *three))
+        self.assertFalse(is_paper(Rules(schema), lack(3, None, lack(2, None, closed(3, 1), closed(3, 0)), lack(2, None, closed(3, 1), closed(2, 1))), *three))
 
     def test_a_row_meets_itself(self):
         loop = Rule("item", "item", [("id", "at")], 0, 3)
