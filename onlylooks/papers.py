@@ -4,19 +4,15 @@ from onlylooks.asks import Problem
 from onlylooks.errors import TooMany
 from onlylooks.limits import MAX_PAPER
 from onlylooks.possible import any_database, check_wanted
-from onlylooks.states import closings, first_state, is_closed, is_open, lacks, ways
+from onlylooks.shapes import names_in_order
+from onlylooks.states import closings, first_state, is_closed, lacks, renamed, ways
 from onlylooks.values import is_integer
 
 
 def numbered(state):
     """The state with its open names numbered as they first stand in it."""
     rows, chosen = state
-    names = {}
-    for row in rows:
-        for entry in row:
-            if is_open(entry) and entry not in names:
-                names[entry] = f"{len(names)}"
-    return tuple([tuple([names.get(entry, entry) for entry in row]) for row in rows]), chosen
+    return renamed(rows, names_in_order(rows, {})), chosen
 
 
 def shortest_lack(problem, state):

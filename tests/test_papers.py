@@ -11,6 +11,7 @@ from onlylooks.rules import Rules
 from onlylooks.statements import Rule, Total
 from onlylooks.tables import Schema, Table
 from tests.anything import any_values
+from tests.checker import Checker
 from tests.towns import town
 from tests.worlds import Maker
 
@@ -60,6 +61,22 @@ def bent(value):
                 yield (kind, number, at, papers[:index] + (other,) + papers[index + 1:])
     else:
         yield ("lack", number, at, ())
+
+
+def bent_once(chance, value):
+    """A paper with another number or row somewhere in it, still of the form of a paper."""
+    if value[0] == "closed" or not value[3] or chance.random() < 0.3:
+        kind, number, at, *rest = value
+        if chance.random() < 0.5:
+            return (kind, chance.randint(0, 6), at, *rest)
+        return (kind, number, chance.choice([None, 0, 1, 2, 3]), *rest)
+    papers = list(value[3])
+    if chance.random() < 0.3:
+        chance.shuffle(papers)
+    else:
+        index = chance.randrange(len(papers))
+        papers[index] = bent_once(chance, papers[index])
+    return (*value[:3], tuple(papers))
 
 
 class PapersTest(unittest.TestCase):
@@ -424,6 +441,30 @@ class ToldTest(PapersTest):
                     self.assertIs(is_paper(rules, list(value), *facts), False)
                     self.assertIs(is_paper(rules, value[:1] + (True,) + value[2:], *facts), False)
         self.assertGreater(told, 100)
+
+    def test_papers_by_the_words_of_the_document(self):
+        """Papers through lacks of any kind, right and wrong ones, held against a check of the tests' own."""
+        right, wrong = 0, 0
+        for number in range(700):
+            chance = random.Random(number)
+            maker = Maker(chance)
+            schema = maker.schema(3, 3, 3)
+            rules = maker.rules(schema, 4)
+            facts = [maker.fact(schema, ["b", "c"]) for _ in range(chance.randint(1, 4))]
+            if wanted(rules, *facts) > 9:
+                continue
+            checker = Checker(rules, facts)
+            values = [checker.any_paper(chance) for _ in range(3)]
+            values.append(bent_once(chance, values[0]))
+            with self.subTest(number):
+                for value in values:
+                    expected = checker.is_paper(value)
+                    self.assertIs(is_paper(rules, value, *facts), expected, value)
+                    right, wrong = right + expected, wrong + (not expected)
+                told = paper(rules, *facts) if wanted(rules, *facts) <= 6 else None
+                self.assertTrue(told is None or checker.is_paper(told))
+        self.assertGreater(right, 500)
+        self.assertGreater(wrong, 500)
 
     def test_nothing_is_a_paper_where_something_is_possible(self):
         rules = Rules(town(), OWNED)
