@@ -1,18 +1,29 @@
 """The search for a state that lacks nothing and is not closed, with the fewest rows or any [32]."""
 
 from onlylooks.bounds import Lack, more_rows
+from onlylooks.rooms import is_room_for
 from onlylooks.shapes import shape
 from onlylooks.states import first_state, is_closed, lacks, ways
 from onlylooks.twins import twins_of
 
 
+def lack_with_ways(problem, state, ask, at, missing):
+    """The Lack with its ways, but for those that are known to lead to nothing."""
+    rows, _ = state
+    states = [each for each in ways(problem, state, ask, at) if not is_closed(problem, each)]
+    new = [those[-1] for those, _ in states if len(those) > len(rows)]
+    many = missing - (len(states) - len(new))
+    if many > 1 and not is_room_for(problem, state, many, new):
+        states = []
+    return Lack(ask, at, missing, states)
+
+
 def lacks_with_ways(problem, state):
-    """The Lacks of a state; one alone if it has no way to a state that is not closed."""
+    """The Lacks of a state; one alone if it has no way on."""
     found = []
     for ask, at, missing in lacks(problem, state):
-        states = [each for each in ways(problem, state, ask, at) if not is_closed(problem, each)]
-        found.append(Lack(ask, at, missing, states))
-        if not states:
+        found.append(lack_with_ways(problem, state, ask, at, missing))
+        if not found[-1].states:
             return found[-1:]
     return found
 

@@ -44,14 +44,18 @@ def candidates(ask, rows):
     return [row for row in rows if row[0] == ask.target]
 
 
-def count(ask, rows, at):
-    """How many rows count at a row, or of all."""
-    asked = asked_of(ask, rows, at)
+def counting(ask, rows, asked):
+    """The rows that count where these entries are asked for."""
     target, checks = ask.target, ask.checks
-    return len([
+    return [
         row for row in rows
         if row[0] == target and fits(row, checks) and has(row, asked)
-    ])
+    ]
+
+
+def count(ask, rows, at):
+    """How many rows count at a row, or of all."""
+    return len(counting(ask, rows, asked_of(ask, rows, at)))
 
 
 def homes(ask, rows):

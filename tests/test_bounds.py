@@ -1,10 +1,12 @@
-"""How many rows have to come in at least, and which words a search need not tell apart."""
+"""How many rows have to come in at least and may at most, and which words need not be told apart."""
 
 import unittest
 
 from onlylooks.asks import Problem
 from onlylooks.bounds import more_rows
 from onlylooks.facts import Counted, Long, Missing, Present, Short
+from onlylooks.possible import possible
+from onlylooks.rooms import is_room_for, most_to_come
 from onlylooks.rules import Rules
 from onlylooks.searches import lacks_with_ways
 from onlylooks.statements import Rule, Total
@@ -79,6 +81,90 @@ class MoreRowsTest(unittest.TestCase):
         self.assertEqual(more_rows(lacks_with_ways(problem, (two, ())), two), 0)
         none = (("u", "1"), ("u", "2"))
         self.assertEqual(more_rows(lacks_with_ways(problem, (none, ())), none), 2)
+
+
+class RoomsTest(unittest.TestCase):
+    """How many new rows the bounds from above let come in together."""
+
+    def schema(self):
+        marks = ["p", "q", "r"]
+        return Schema(Table("t", "n", ("a", marks), ("b", marks)), Table("u", "n", ("a", marks)))
+
+    def check(self, expected, statements, facts, new, there=()):
+        problem = Problem(Rules(self.schema(), *statements), facts)
+        state = (tuple(there), first_state(problem)[1])
+        self.assertEqual(most_to_come(problem, state, new), expected)
+        if expected is not None:
+            self.assertTrue(is_room_for(problem, state, expected, new))
+            self.assertFalse(is_room_for(problem, state, expected + 1, new))
+        else:
+            self.assertTrue(is_room_for(problem, state, 99, new))
+
+    def rows(self, marks, name="0.1"):
+        """New rows of t, with these marks."""
+        return [("t", name, *word) for word in marks.split()]
+
+    def test_totals(self):
+        every, p = Total("t", 0, 3), Total("t", 0, 1, where={"a": ["p"]})
+        self.check(None, [], [], self.rows("pp qq"))
+        self.check(3, [every], [], self.rows("pp qq"))
+        self.check(1, [every, p], [], self.rows("pp pr"))
+        self.check(4, [every, p], [], self.rows("pp qq"))
+        self.check(None, [p, Total("u", 0, 1)], [], self.rows("pp qq"))
+        self.check(3, [p, Total("t", 0, 2, where={"a": ["q", "r"]})], [], self.rows("pp qq rr pr"))
+        self.check(2, [every], [], self.rows("pp qq"), [("t", "x", "p", "p"), ("u", "x", "p")])
+        self.check(0, [p], [], self.rows("pp"), [("t", "x", "p", "p")])
+        self.check(None, [Total("t", 1, None)], [], self.rows("pp"))
+
+    def test_facts(self):
+        self.check(2, [], [Counted("t", {"b": ["p", "q"]}, 0, 2)], self.rows("pp qq"))
+        self.check(1, [], [Counted("t", {"n": "x"}, 0, 1)], self.rows("pp qq", "x"))
+        self.check(None, [], [Counted("t", {"n": "x"}, 0, 1)], self.rows("pp qq"))
+        self.check(1, [], [Short(Total("t", 2, None))], self.rows("pp qq"))
+        self.check(None, [], [Long(Total("t", 0, 2)), Missing("t", ("x", "p", "p")), Present("u", ("x", "p"))], self.rows("pp qq"))
+        self.check(None, [], [Short(Rule("t", "t", [], 1, 1))], self.rows("pp qq"))
+
+    def test_rules_at_rows_that_are_there(self):
+        few = Rule.at_most("u", "t", [("n", "n")], 2, other_where={"b": ["p", "q"]})
+        there = [("u", "x", "p"), ("t", "x", "r", "p")]
+        self.check(1, [few], [], self.rows("pp qq", "x"), there)
+        self.check(None, [few], [], self.rows("pp qr", "x"), there)
+        self.check(None, [few], [], self.rows("pp qq", "y"), there)
+        self.check(None, [few], [], self.rows("pp qq", "x"))
+        self.check(2, [Rule.at_most("u", "t", [], 2)], [], self.rows("pp qq"), [("u", "x", "p")])
+
+    def test_rules_at_the_new_rows(self):
+        one = Rule("t", "t", [("a", "a")], 0, 1)
+        self.check(2, [one], [], self.rows("pp pq qq"))
+        self.check(3, [Rule("t", "t", [("a", "a")], 0, 3)], [], self.rows("pp pq pr"))
+        self.check(1, [Rule("t", "t", [("a", "a")], 0, 2)], [], self.rows("pp pq"), [("t", "x", "p", "r")])
+        self.check(2, [Rule("t", "t", [("n", "n")], 0, 2)], [], self.rows("pp pq", "x"))
+        self.check(None, [Rule("t", "t", [("n", "n")], 0, 2)], [], self.rows("pp pq"))
+        self.check(2, [Rule("t", "t", [], 0, 2)], [], self.rows("pp qq"))
+        self.check(4, [Rule("t", "t", [("a", "b")], 0, 2)], [], self.rows("pp qq"))
+        self.check(None, [Rule("t", "t", [("a", "b")], 0, 2)], [], self.rows("pq"))
+        self.check(None, [Rule("u", "t", [("a", "a")], 0, 2)], [], self.rows("pp"))
+        self.check(None, [Rule("t", "u", [("a", "a")], 0, 2)], [], self.rows("pp"))
+
+    def test_rules_at_the_new_rows_with_a_where(self):
+        """Rows that have no place of their own may come in without one that has."""
+        self.check(2, [Rule("t", "t", [("a", "a")], 0, 2, where={"b": ["p"]})], [], self.rows("pp"))
+        self.check(None, [Rule("t", "t", [("a", "a")], 0, 2, where={"b": ["p"]})], [], self.rows("pp pq"))
+        self.check(1, [Rule("t", "t", [("a", "a")], 0, 2, where={"b": ["p"]})], [], self.rows("pp"), [("t", "x", "p", "q")])
+        self.check(None, [Rule("t", "t", [("a", "a")], 0, 2, other_where={"b": ["q"]})], [], self.rows("pp"))
+        self.check(2, [Rule("t", "t", [("a", "a")], 0, 2, other_where={"b": ["q"]})], [], self.rows("pq"))
+
+    def test_more_rows_than_there_is_room_for(self):
+        """What would take very long row by row."""
+        marks = ["p", "q", "r"]
+        schema = Schema(Table("t", ("a", marks), ("b", marks), ("c", marks)))
+        three = [Total("t", 0, 3, where={"a": [mark]}) for mark in marks]
+        for statements in (three, [Rule("t", "t", [("a", "a")], 0, 3)], [Rule("t", "t", [("b", "b")], 0, 3)]):
+            rules = Rules(schema, *statements)
+            self.assertIsNone(possible(rules, Counted("t", {}, 10, None)))
+            self.assertIsNone(possible(rules, Long(Rule.at_most("t", "t", [], 3)), Counted("t", {}, 10, None)))
+            found = possible(rules, Counted("t", {}, 9, None))
+            self.assertEqual((len(found), rules.keeps(found)), (9, True))
 
 
 class TwinsTest(unittest.TestCase):
