@@ -96,6 +96,12 @@ def standing_of(truths):
     return "open" if any(truths) else "never"
 
 
+def check_index(value, many):
+    """Raises OutOfRange for any value that is no index of so many things."""
+    if not is_integer(value) or not 0 <= value < many:
+        raise OutOfRange(value)
+
+
 class Field:
     """All answers that some database gives which keeps rules and which a change fits."""
 
@@ -150,7 +156,7 @@ class Field:
 
     def holds(self, number, answer):
         """Whether the demand with an index holds for an answer."""
-        self._check_index(number)
+        check_index(number, len(self._demands))
         self._check_answer(answer)
         return self._truths[answer][number]
 
@@ -161,14 +167,9 @@ class Field:
 
     def standing(self, number):
         """unfit, sure, refused or open: for which answers the demand with an index holds."""
-        self._check_index(number)
+        check_index(number, len(self._demands))
         told = standing_of([self._truths[answer][number] for answer in self._truths])
         return {"always": "sure", "never": "refused"}.get(told, told)
-
-    def _check_index(self, number):
-        """Raises OutOfRange for any value that is no index of a demand."""
-        if not is_integer(number) or not 0 <= number < len(self._demands):
-            raise OutOfRange(number)
 
     def _check_answer(self, answer):
         """Raises NoAnswer for any value that is none of the answers."""

@@ -104,16 +104,24 @@ def database_of(schema, problem, rows):
     return database
 
 
-def searched(rules, facts, is_for_fewest):
-    """A Database that keeps rules and has facts, with the fewest rows or any; None if there is none."""
+def searched(rules, facts, is_for_fewest, bound=None):
+    """A Database that keeps rules and has facts, with the fewest rows or any; None if there is none.
+
+    Beside a bound, it has fewer rows than that.
+    """
     problem = Problem(rules, facts)
-    state = Search(problem, is_for_fewest).end()
+    state = Search(problem, is_for_fewest, bound).end()
     return None if state is None else database_of(rules.schema, problem, state[0])
 
 
 def any_database(rules, facts):
     """Any Database that keeps rules and has facts that are let; None if there is none."""
     return searched(rules, facts, False)
+
+
+def database_with_fewer(rules, facts, bound):
+    """The Database that possible tells, if it has fewer rows than a bound; otherwise None."""
+    return searched(rules, facts, True, bound)
 
 
 def possible(rules, *facts):

@@ -31,8 +31,10 @@ def lacks_with_ways(problem, state):
 class Search:
     """The states that wait to be looked at, in piles by how many rows they come to at least."""
 
-    def __init__(self, problem, is_for_fewest):
+    def __init__(self, problem, is_for_fewest, bound=None):
         self._problem = problem
+        # An end with so many rows or more is of no use.
+        self._bound = bound
         # Otherwise there is one pile alone: the search goes straight to an end.
         self._is_for_fewest = is_for_fewest
         self._twins = twins_of(problem)
@@ -41,6 +43,8 @@ class Search:
 
     def _wait(self, state, lacking, rows):
         """Has a state wait, on the pile for so many rows."""
+        if self._bound is not None and rows >= self._bound:
+            return
         pile = rows if self._is_for_fewest else 0
         self._piles.setdefault(pile, []).append((state, lacking))
 

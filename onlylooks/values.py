@@ -34,6 +34,16 @@ def are_different(words):
     return len(set(words)) == len(words)
 
 
+def picks(values, many):
+    """All tuples of so many of the values, each in their order."""
+    if many == 0:
+        return [()]
+    return [
+        (value, *rest) for at, value in enumerate(values)
+        for rest in picks(values[at + 1:], many - 1)
+    ]
+
+
 def order_key(value):
     """What to sort keys of any kinds by: those of one kind stand in their order [3]."""
     if isinstance(value, int):

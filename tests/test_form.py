@@ -2,6 +2,7 @@
 
 import ast
 import builtins
+import functools
 import pathlib
 import re
 import unittest
@@ -39,6 +40,7 @@ def files():
     return sorted(PACKAGE.glob("*.py"))
 
 
+@functools.cache
 def trees():
     return [(path.name, ast.parse(path.read_text())) for path in files()]
 
