@@ -20,6 +20,21 @@ def check_entries(values, schema):
         raise TooMany(MAX_ENTRIES)
 
 
+def check_fits(change, database):
+    """Raises Unfit for the first entry of a change that does not fit a database."""
+    misfits = change.misfits(database)
+    if misfits:
+        raise Unfit(misfits[0])
+
+
+def do_in(database, change):
+    """Puts and takes the rows of a change that fits a database."""
+    for name, row in change.put_rows:
+        database.put(name, row)
+    for name, row in change.taken_rows:
+        database.take(name, row)
+
+
 class Change:
     """Rows that are to come into a database, and rows that are to go out of it."""
 
@@ -43,7 +58,7 @@ class Change:
         """The entries (table, row) that are to go out, a tuple."""
         return self._taken_rows
 
-    def _misfits(self, database):
+    def misfits(self, database):
         """The indexes of the entries that do not fit a database."""
         check_equal(self._schema, database.schema)
         there = [row in database[name] for name, row in [*self._put_rows, *self._taken_rows]]
@@ -52,18 +67,13 @@ class Change:
 
     def fits(self, database):
         """Whether no put row is in a database and all taken rows are."""
-        return not self._misfits(database)
+        return not self.misfits(database)
 
     def on(self, database):
         """A new database with the put rows and without the taken ones."""
-        misfits = self._misfits(database)
-        if misfits:
-            raise Unfit(misfits[0])
+        check_fits(self, database)
         changed = database.copied()
-        for name, row in self._put_rows:
-            changed.put(name, row)
-        for name, row in self._taken_rows:
-            changed.take(name, row)
+        do_in(changed, self)
         return changed
 
     def contrary(self):

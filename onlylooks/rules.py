@@ -1,7 +1,7 @@
 """Rules: the statements about the databases of a schema, together [22]."""
 
 from onlylooks.databases import check_equal
-from onlylooks.errors import Circle, Misfit, TooMany
+from onlylooks.errors import Broken, Circle, Misfit, TooMany
 from onlylooks.limits import MAX_STATEMENTS
 from onlylooks.statements import Rule, is_statement
 
@@ -36,6 +36,14 @@ def check_circles(schema, statements):
     for name in schema.names:
         if leads_back(name, steps):
             raise Circle(name)
+
+
+def check_kept(rules, database):
+    """Raises Broken for the first broken place of a database."""
+    broken = rules.broken(database)
+    if broken:
+        index, place = broken[0]
+        raise Broken(index, place)
 
 
 class Rules:

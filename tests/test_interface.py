@@ -16,6 +16,9 @@ FILES = {
     "demands": ["Demand"],
     "looks": ["Look"],
     "fields": ["Field"],
+    "kinds": ["Template"],
+    "keeper": ["Keeper", "CountingKeeper", "House", "CountingHouse"],
+    "desks": ["Desk"],
 }
 FUNCTIONS = {
     "possible": {"possible": "rules, *facts", "wanted": "rules, *facts",
@@ -25,6 +28,17 @@ FUNCTIONS = {
                 "core": "rules", "barren": "rules"},
     "demands": {"demands": "rules, change"},
     "looks": {"looks": "rules, change"},
+    "choosing": {"is_test": "field, numbers", "least_test": "field", "needed": "field",
+                 "leads": "field, one, other", "fewest_tests": "field"},
+    "plans": {"is_plan": "field, value", "depth": "plan", "plan": "field", "decided": "field, plan, ask",
+              "resistance": "field, many", "is_resistance": "field, many, value",
+              "are_enough": "field, numbers", "at_once": "field"},
+    "kinds": {"names_of": "change", "tests": "rules, template", "depths": "rules, template"},
+    "couples": {"together": "one, other", "spoils": "rules, one, other", "helps": "rules, one, other",
+                "in_any_order": "rules, one, other"},
+    "mending": {"mended": "rules, database, change", "must_go": "rules, database, rows"},
+    "texts": {"show_rules": "rules", "read_rules": "text", "show_rows": "database",
+              "read_rows": "schema, data"},
 }
 STATEMENT = {"__call__": "database", "counts": "database", "broken": "database", "__eq__": "other"}
 ROW_FACT = {"__init__": "table, row", "table": "", "row": "", "__call__": "database", "__eq__": "other"}
@@ -69,8 +83,17 @@ OWN = {
     "Field": {"__init__": "rules, change", "looks": "", "demands": "", "answers": "", "__len__": "",
               "__iter__": "", "is_answer": "value", "facts": "answer", "__getitem__": "at",
               "holds": "number, answer", "is_kept": "answer", "verdict": "", "standing": "number"},
+    "Template": {"__init__": "put, taken", "put_rows": "", "taken_rows": "", "parameters": "", "cases": "",
+                 "case_of": "names", "filled": "schema, names", "of": "change", "__eq__": "other"},
+    "Keeper": {"__init__": "rules, look, write", "__call__": "change", "do": "change", "undo": "",
+               "rules": "", "steps": "", "looked": "", "most_looks": "", "allow": "value", "attempt": "call"},
+    "CountingKeeper": {"__init__": "rules, look, write", "total": ""},
+    "House": {"__init__": "rules, database", "__call__": "change", "do": "change", "database": ""},
+    "CountingHouse": {"__init__": "rules, database"},
+    "Desk": {"__init__": "rules, database", "say": "line"},
 }
 STATIC = ["key", "reference", "at_most", "exactly", "none"]
+CLASS_METHODS = ["of"]
 
 
 def each_class():
@@ -84,9 +107,9 @@ def parameters(method):
     """The parameters of a property, a static method or a method, without the object itself."""
     if isinstance(method, property):
         method = method.fget
-    static = isinstance(method, staticmethod)
-    told = str(inspect.signature(method.__func__ if static else method))[1:-1]
-    return told if static else told.removeprefix("self").removeprefix(", ")
+    static, own = isinstance(method, staticmethod), "cls" if isinstance(method, classmethod) else "self"
+    told = str(inspect.signature(getattr(method, "__func__", method)))[1:-1]
+    return told if static else told.removeprefix(own).removeprefix(", ")
 
 
 class InterfaceTest(unittest.TestCase):
@@ -102,6 +125,7 @@ class InterfaceTest(unittest.TestCase):
                     method = vars(found)[name]
                     self.assertEqual(parameters(method), expected)
                     self.assertEqual(isinstance(method, staticmethod), name in STATIC)
+                    self.assertEqual(isinstance(method, classmethod), name in CLASS_METHODS)
 
     def test_each_function_is_defined_in_its_file(self):
         for file, told in FUNCTIONS.items():
@@ -118,4 +142,3 @@ class InterfaceTest(unittest.TestCase):
         self.assertEqual(list(made.parameters)[0], "schema")
         rest = list(made.parameters.values())[1:]
         self.assertTrue(all(each.kind is each.KEYWORD_ONLY for each in rest))
-
