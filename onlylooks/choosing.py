@@ -46,7 +46,7 @@ def least_test(field):
     if field.verdict in ("unfit", "never"):
         return None
     truths, left = truths_of(field), open_demands(field)
-    for number in reversed(open_demands(field)):
+    for number in reversed(list(left)):
         rest = [each for each in left if each != number]
         if are_test(truths, rest):
             left = rest

@@ -1,5 +1,9 @@
 """A database of plain sets of tuples, for keepers whose looks and writes are not the program's."""
 
+from onlylooks.keeper import Keeper
+from onlylooks.rules import Rules
+from tests.towns import town
+
 
 class Plain:
     """Answers looks, is written to, and notes both."""
@@ -38,3 +42,9 @@ class Plain:
     def fresh(self):
         """Forgets what was asked and written."""
         self.asked, self.written, self.instead = [], [], {}
+
+
+def kept(*statements, kind=Keeper, **rows):
+    """A keeper and the plain rows behind it."""
+    plain = Plain(town(), **rows)
+    return kind(Rules(town(), *statements), plain.look, plain.write), plain

@@ -13,16 +13,13 @@ from onlylooks.looks import looks
 from onlylooks.rules import Rules
 from onlylooks.statements import Rule, Total
 from onlylooks.tables import Schema, Table
-from tests.towns import town
+from tests.raising import raised
+from tests.towns import change, town
 from tests.worlds import Maker, all_rows, with_rows
 
 OWNED = Rule.reference("item", "shop", [("at", "id")])
 ITEM, OTHER, SHOP = ("item", ("a", "x", "big")), ("item", ("b", "x", "big")), ("shop", ("x",))
 ALL = (spoils, helps, in_any_order)
-
-
-def change(put=(), taken=(), schema=None):
-    return Change(town() if schema is None else schema, list(put), list(taken))
 
 
 def is_ready(rules, one, other, database):
@@ -78,14 +75,6 @@ def split(maker, made):
     cut = maker.source.randint(0, len(entries))
     return [Change(made.schema, [entry for entry, is_put in some if is_put], [entry for entry, is_put in some if not is_put])
             for some in (entries[:cut], entries[cut:])]
-
-
-def raised(error, call, *arguments):
-    try:
-        call(*arguments)
-    except error as caught:
-        return caught
-    raise AssertionError(f"no {error.__name__}")
 
 
 class TogetherTest(unittest.TestCase):

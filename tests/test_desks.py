@@ -3,7 +3,6 @@
 import random
 import unittest
 
-from onlylooks.changes import Change
 from onlylooks.databases import Database
 from onlylooks.desks import Desk
 from onlylooks.errors import (
@@ -15,7 +14,8 @@ from onlylooks.rules import Rules
 from onlylooks.statements import Rule, Total
 from onlylooks.tables import Schema, Table
 from tests.anything import any_values
-from tests.towns import filled, town
+from tests.raising import raised
+from tests.towns import change, filled, town
 from tests.worlds import Maker
 
 OWNED = Rule.reference("item", "shop", [("at", "id")])
@@ -25,18 +25,6 @@ ROWS = {"item": [("b", "x", "small"), ("a", "x", "big"), ("c", "y", "big")], "sh
 
 def desk(*statements, **rows):
     return Desk(Rules(town(), *statements), filled(town(), **rows))
-
-
-def raised(error, call, *arguments):
-    try:
-        call(*arguments)
-    except error as caught:
-        return caught
-    raise AssertionError(f"no {error.__name__}: {arguments}")
-
-
-def change(put=(), taken=()):
-    return Change(town(), list(put), list(taken))
 
 
 class MadeTest(unittest.TestCase):
@@ -257,17 +245,17 @@ class HistoryTest(unittest.TestCase):
                 continue
             made, before, total = Desk(rules, database), [], 0
             for _ in range(10):
-                change = maker.change(schema, "bc")
-                line = " / ".join([" ".join(["put", name, *row]) for name, row in change.put_rows]
-                                  + [" ".join(["take", name, *row]) for name, row in change.taken_rows])
-                if not change.fits(database):
+                made_change = maker.change(schema, "bc")
+                line = " / ".join([" ".join(["put", name, *row]) for name, row in made_change.put_rows]
+                                  + [" ".join(["take", name, *row]) for name, row in made_change.taken_rows])
+                if not made_change.fits(database):
                     raised(Unfit, made.say, "do " + line)
                     continue
                 try:
                     asked = made.say("ask " + line)
                 except TooMany:
                     continue
-                behind = change.on(database)
+                behind = made_change.on(database)
                 word = "done" if rules.keeps(behind) else "refused"
                 self.assertEqual(asked.split(" ")[0], "kept" if word == "done" else "broken")
                 self.assertEqual(made.say("do " + line), word + " " + asked.split(" ")[1])

@@ -150,6 +150,53 @@ class FormTest(unittest.TestCase):
             if isinstance(node.func, ast.Name) and node.func.id in ("any", "all", "sum", "sorted"):
                 self.assertNotIsInstance(node.args[0], ast.GeneratorExp, where)
 
+    def test_reversed(self):
+        """Where a class has items of its own, only lists that are plainly lists are reversed."""
+        for where, node in nodes(ast.Call):
+            if isinstance(node.func, ast.Name) and node.func.id == "reversed":
+                made = node.args[0]
+                self.assertIsInstance(made, ast.Call, where)
+                self.assertIn(made.func.id, ("list", "tuple", "sorted", "range"), where)
+
+    def test_stars_in_calls(self):
+        simple = (ast.Name, ast.Attribute, ast.Constant, ast.List, ast.Tuple)
+        for where, node in nodes(ast.Call):
+            behind = False
+            for each in node.args:
+                behind = behind or isinstance(each, ast.Starred)
+                if behind:
+                    self.assertIsInstance(each.value if isinstance(each, ast.Starred) else each, simple, where)
+
+    def test_is(self):
+        for where, node in nodes(ast.Compare):
+            for sign, other in zip(node.ops, node.comparators):
+                if isinstance(sign, (ast.Is, ast.IsNot)):
+                    self.assertIsInstance(other, ast.Constant, where)
+                    self.assertIn(other.value, (None, True, False), where)
+
+    def test_words_that_do_not_occur(self):
+        barred = re.compile(r"\b(type|typing|enum|Enum|Generic|Protocol|ABC|namedtuple|abstractmethod)\b|dataclass|overload|contextmanager")
+        for where, node in nodes(ast.Name, ast.Attribute, ast.Constant, ast.arg):
+            text = getattr(node, "id", None) or getattr(node, "attr", None) or getattr(node, "arg", None) or getattr(node, "value", "")
+            if isinstance(text, str) and "\n" not in text and " " not in text:
+                self.assertIsNone(barred.search(text), where)
+
+    def test_names_are_bound_once(self):
+        for name, tree in trees():
+            bound = [each.name for each in tree.body if hasattr(each, "name")]
+            bound += [alias.name for each in tree.body if isinstance(each, ast.ImportFrom) for alias in each.names]
+            bound += [target.id for each in tree.body if isinstance(each, ast.Assign) for target in each.targets]
+            self.assertEqual(sorted(bound), sorted(set(bound)), name)
+
+    def test_no_circle_of_imports(self):
+        asked = {name[:-3]: {node.module.split(".")[1] for node in ast.walk(tree) if isinstance(node, ast.ImportFrom)} for name, tree in trees()}
+        left = dict(asked)
+        while left:
+            free = [name for name in left if not left[name] & set(left)]
+            self.assertTrue(free, left)
+            for name in free:
+                del left[name]
+
     def test_constants(self):
         for where, node in nodes(ast.Constant):
             self.assertNotIsInstance(node.value, float, where)

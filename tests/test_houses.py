@@ -10,31 +10,12 @@ from onlylooks.keeper import CountingHouse, CountingKeeper, House, Keeper
 from onlylooks.rules import Rules
 from onlylooks.statements import Rule, Total
 from onlylooks.tables import Schema, Table
-from tests.towns import filled, town
+from tests.raising import raised
+from tests.towns import change, filled, item, shop, town
 
 OWNED = Rule.reference("item", "shop", [("at", "id")])
 KEY = Rule.key("item", "id")
 KINDS = (House, CountingHouse, Desk)
-
-
-def item(name, at, kind="big"):
-    return ("item", (name, at, kind))
-
-
-def shop(name):
-    return ("shop", (name,))
-
-
-def change(put=(), taken=(), schema=None):
-    return Change(town() if schema is None else schema, list(put), list(taken))
-
-
-def raised(error, call, *arguments):
-    try:
-        call(*arguments)
-    except error as caught:
-        return caught
-    raise AssertionError(f"no {error.__name__}")
 
 
 def houses(*statements, **rows):

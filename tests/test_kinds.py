@@ -16,6 +16,7 @@ from onlylooks.statements import Rule, Total
 from onlylooks.tables import Schema, Table
 from tests.anything import any_values, changed, is_plain
 from tests.samples import owners
+from tests.raising import raised
 from tests.towns import town
 from tests.worlds import Maker
 
@@ -28,14 +29,6 @@ ITEM = ("item", (0, 1, "big"))
 
 def case(names):
     return tuple(list(names).index(name) for name in names)
-
-
-def raised(error, call, *arguments):
-    try:
-        call(*arguments)
-    except error as caught:
-        return caught
-    raise AssertionError(f"no {error.__name__}: {arguments}")
 
 
 class TemplateTest(unittest.TestCase):

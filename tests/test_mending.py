@@ -14,33 +14,14 @@ from onlylooks.rules import Rules
 from onlylooks.statements import Rule, Total
 from onlylooks.tables import Schema, Table
 from tests.anything import any_values, is_plain
-from tests.towns import filled, subsets, town
+from tests.raising import raised
+from tests.towns import change, filled, item, shop, subsets, town
 from tests.worlds import Maker, all_rows, with_rows
 
 BIG = {"kind": ["big"]}
 OWNED = Rule.reference("item", "shop", [("at", "id")])
 FEW = Rule.at_most("shop", "item", [("id", "at")], 1, other_where=BIG)
 KEY = Rule.key("item", "id")
-
-
-def item(name, at, kind="big"):
-    return ("item", (name, at, kind))
-
-
-def shop(name):
-    return ("shop", (name,))
-
-
-def change(put=(), taken=(), schema=None):
-    return Change(town() if schema is None else schema, list(put), list(taken))
-
-
-def raised(error, call, *arguments):
-    try:
-        call(*arguments)
-    except error as caught:
-        return caught
-    raise AssertionError(f"no {error.__name__}")
 
 
 def entries(database):

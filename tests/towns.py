@@ -2,6 +2,7 @@
 
 from itertools import chain, combinations
 
+from onlylooks.changes import Change
 from onlylooks.databases import Database
 from onlylooks.tables import Schema, Table
 
@@ -9,6 +10,19 @@ from onlylooks.tables import Schema, Table
 def town():
     item = Table("item", "id", "at", ("kind", ["big", "small"]))
     return Schema(item, Table("shop", "id"))
+
+
+def item(name, at, kind="big"):
+    """An entry of a change, or a row to be taken."""
+    return ("item", (name, at, kind))
+
+
+def shop(name):
+    return ("shop", (name,))
+
+
+def change(put=(), taken=(), schema=None):
+    return Change(town() if schema is None else schema, list(put), list(taken))
 
 
 def filled(schema, **rows):
