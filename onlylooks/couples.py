@@ -3,9 +3,8 @@
 from onlylooks.changes import Change
 from onlylooks.databases import check_equal
 from onlylooks.demands import demands
-from onlylooks.errors import InvalidPair, TooMany
+from onlylooks.errors import InvalidPair
 from onlylooks.fields import check_size, databases_by_answer, fact_of, facts_of_change, holds_for
-from onlylooks.limits import MAX_ENTRIES
 from onlylooks.looks import looks_of
 from onlylooks.possible import database_with_fewer
 
@@ -21,8 +20,6 @@ def together(one, other):
     others = entries_of(other)
     if [entry for entry in entries_of(one) if entry in others]:
         raise InvalidPair()
-    if len(one) + len(other) > MAX_ENTRIES:
-        raise TooMany(MAX_ENTRIES)
     put, taken = [*one.put_rows, *other.put_rows], [*one.taken_rows, *other.taken_rows]
     return Change(one.schema, put, taken)
 

@@ -39,8 +39,8 @@ def asked_words(texts):
     """The dict from columns to lists of words that texts tell."""
     words = {}
     for text in texts:
-        column, sign, marks = text.partition(":")
-        check_line(sign == ":" and column not in words)
+        column, _, marks = text.partition(":")
+        check_line(column not in words)
         check_words([column, *marks.split("|")])
         words[column] = marks.split("|")
     return words

@@ -1,7 +1,6 @@
 """Keepers: databases that are kept by looks alone, one that is not seen or one of their own [80] to [84]."""
 
 from onlylooks.changes import check_fits, do_in
-from onlylooks.databases import check_equal
 from onlylooks.errors import (
     Broken, Circle, InvalidAnswer, InvalidChange, InvalidFact, InvalidLimit, InvalidNames, InvalidPair,
     InvalidRow, InvalidRule, InvalidSchema, InvalidTable, InvalidTemplate, LookFailed, Misfit, NeverFits,
@@ -190,7 +189,6 @@ class House(Keeper):
     def _check_fits(self, change):
         """Raises OtherSchema or Unfit for a change that does not fit its database."""
         self._looked = []
-        check_equal(self.rules.schema, change.schema)
         check_fits(change, self._own)
 
 

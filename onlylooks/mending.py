@@ -1,6 +1,5 @@
 """Rows that have to be put beside a change, and rows that have to go with others [78], [79]."""
 
-from onlylooks.changes import check_fits
 from onlylooks.databases import check_equal
 from onlylooks.demands import words_at
 from onlylooks.errors import Unfit
@@ -20,10 +19,8 @@ def entries_in(database):
 
 def mended(rules, database, change):
     """The fewest rows to be put beside a change so that all rules hold; None if three are too few."""
-    check_equal(rules.schema, database.schema)
     check_equal(rules.schema, change.schema)
     check_kept(rules, database)
-    check_fits(change, database)
     changed = change.on(database)
     there = [Present(name, row) for name, row in entries_in(changed)]
     gone = [Missing(name, row) for name, row in change.taken_rows]
@@ -35,7 +32,7 @@ def check_rows_there(database, values):
     """Raises Unfit for the first of any values that is no row of a database, or stands ahead of it."""
     there = entries_in(database)
     for index, value in enumerate(values):
-        if not isinstance(value, tuple) or value not in there or value in values[:index]:
+        if value not in there or value in values[:index]:
             raise Unfit(index)
 
 

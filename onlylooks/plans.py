@@ -106,7 +106,7 @@ def is_step(field, value):
 
 def is_end(value):
     """Whether any value is a plan without branches."""
-    return isinstance(value, tuple) and value in (("kept",), ("broken",))
+    return value in (("kept",), ("broken",))
 
 
 def is_plan(field, value):
