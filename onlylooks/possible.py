@@ -66,10 +66,10 @@ def check_wanted(rules, facts):
 def word_of(number):
     """The word that a number is written as, with letters for digits."""
     many = len(LETTERS)
-    word = LETTERS[number % many]
+    word = LETTERS[int(number) % many]
     while number >= many:
         number = number // many
-        word = LETTERS[number % many] + word
+        word = LETTERS[int(number) % many] + word
     return word
 
 

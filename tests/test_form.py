@@ -167,6 +167,16 @@ class FormTest(unittest.TestCase):
                 if behind:
                     self.assertIsInstance(each.value if isinstance(each, ast.Starred) else each, simple, where)
 
+    def test_remainders(self):
+        """Where bytes are made, what stands ahead of the sign is plainly a number, not a text."""
+        for where, node in nodes(ast.BinOp, ast.AugAssign):
+            if isinstance(node.op, ast.Mod):
+                self.assertIsInstance(node, ast.BinOp, where)
+                left = node.left
+                is_call = isinstance(left, ast.Call) and isinstance(left.func, ast.Name) and left.func.id in ("int", "len")
+                is_number = isinstance(left, ast.Constant) and isinstance(left.value, int)
+                self.assertTrue(is_call or is_number, where)
+
     def test_is(self):
         for where, node in nodes(ast.Compare):
             for sign, other in zip(node.ops, node.comparators):
