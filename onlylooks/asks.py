@@ -2,6 +2,8 @@
 
 from onlylooks.facts import Counted, Long, Missing, Present, Short
 from onlylooks.statements import Rule
+from onlylooks.tables import checks_of
+from onlylooks.twins import twins_of
 
 
 def flat(name, row):
@@ -14,12 +16,9 @@ def spot_of(table, column):
     return table.columns.index(column) + 1
 
 
-def checks_of(table, words):
-    """The tuples (spot, words that fit there) for words that rows are to fit."""
-    return tuple([
-        (spot_of(table, column), (asked,) if isinstance(asked, str) else asked)
-        for column, asked in words.items()
-    ])
+def checks_in(table, words):
+    """The tuples (spot, words that fit there) for words that rows are to fit as they stand in states."""
+    return tuple([(spot + 1, asked) for spot, asked in checks_of(table, words)])
 
 
 def layout_of(table):
@@ -51,11 +50,11 @@ class Ask:
 def ask_of_statement(number, statement, schema, low, high):
     """The Ask for the count of a statement, with these bounds."""
     table = schema[statement.table]
-    checks = checks_of(table, statement.where)
+    checks = checks_in(table, statement.where)
     if not isinstance(statement, Rule):
         return Ask(number, statement.table, checks, low, high)
     other = schema[statement.other]
-    ask = Ask(number, statement.other, checks_of(other, statement.other_where), low, high)
+    ask = Ask(number, statement.other, checks_in(other, statement.other_where), low, high)
     ask.home = statement.table
     ask.home_checks = checks
     ask.joins = tuple([
@@ -67,7 +66,7 @@ def ask_of_statement(number, statement, schema, low, high):
 def ask_of_fact(number, fact, schema):
     """The Ask for a Counted, a Short or a Long."""
     if isinstance(fact, Counted):
-        checks = checks_of(schema[fact.table], fact.words)
+        checks = checks_in(schema[fact.table], fact.words)
         return Ask(number, fact.table, checks, fact.least, fact.most)
     statement = fact.statement
     if isinstance(fact, Short):
@@ -106,4 +105,14 @@ class Problem:
         present = [flat(fact.table, fact.row) for fact in facts if isinstance(fact, Present)]
         # A dict keeps each row once, in its order.
         self.first_rows = tuple({row: True for row in present})
+        # The Asks that count all rows, and those for which a row is to be chosen.
+        self.totals = [ask for ask in self.asks if ask.home is None]
+        self.choosing = [ask for ask in self.asks if ask.slot is not None]
         self.layouts = {name: layout_of(schema[name]) for name in schema.names}
+        self.twins = twins_of(self)
+        # What searches found out of rows and states, whatever the bounds of Asks are.
+        self.roles = {}
+        self.start = None
+        self.kept_steps = {}
+        # A search does not come back to a state, so that one step is enough, unless others follow it.
+        self.most_steps = 1

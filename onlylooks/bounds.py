@@ -4,13 +4,13 @@ from onlylooks.states import asked_of, is_open
 
 
 class Lack:
-    """A lack of a state, with how many rows are missing, and the states behind its ways."""
+    """A lack of a state, with how many rows have to come in for it at least, and its Ways."""
 
-    def __init__(self, ask, site, missing, states):
+    def __init__(self, ask, site, new, ways):
         self.ask = ask
         self.site = site
-        self.missing = missing
-        self.states = states
+        self.new = new
+        self.ways = ways
 
 
 def words_asked(lack, rows):
@@ -48,24 +48,21 @@ def are_apart(one, other, rows):
     return are_unlike_homes(one, other, rows)
 
 
-def new_rows_for(lack, rows):
-    """How many rows have to come in for a lack at least: ways without a new row may spare some."""
-    return lack.missing - len([those for those, _ in lack.states if len(those) == len(rows)])
-
-
 def sum_apart(lacking, rows):
     """The sum of new rows for lacks, leaving out each one that is not apart from all before."""
     kept = []
     for lack in lacking:
         if all([are_apart(lack, before, rows) for before in kept]):
             kept.append(lack)
-    return sum([new_rows_for(lack, rows) for lack in kept])
+    return sum([lack.new for lack in kept])
 
 
 def more_rows(lacking, rows):
     """How many rows have to come in at least, by what a state lacks."""
-    wanting = [lack for lack in lacking if new_rows_for(lack, rows) > 0]
+    wanting = [lack for lack in lacking if lack.new > 0]
+    if len(wanting) < 2:
+        return sum([lack.new for lack in wanting])
     # Those that ask for most words are apart from many; those for many rows weigh much.
     narrow = sorted(wanting, key=lambda lack: -len(words_asked(lack, rows)))
-    heavy = sorted(wanting, key=lambda lack: -new_rows_for(lack, rows))
+    heavy = sorted(wanting, key=lambda lack: -lack.new)
     return max([sum_apart(narrow, rows), sum_apart(heavy, rows)])

@@ -61,7 +61,7 @@ class Change:
     def misfits(self, database):
         """The indexes of the entries that do not fit a database."""
         check_equal(self._schema, database.schema)
-        there = [row in database[name] for name, row in [*self._put_rows, *self._taken_rows]]
+        there = [database.has_row(name, row) for name, row in [*self._put_rows, *self._taken_rows]]
         many = len(self._put_rows)
         return [index for index, is_there in enumerate(there) if is_there == (index < many)]
 

@@ -1,12 +1,13 @@
 """Two changes, side by side or one after the other [74] to [76]."""
 
+from onlylooks.answers import Answers
 from onlylooks.changes import Change
 from onlylooks.databases import check_equal
 from onlylooks.demands import demands
 from onlylooks.errors import InvalidPair
-from onlylooks.fields import check_size, databases_by_answer, fact_of, facts_of_change, holds_for
+from onlylooks.fields import Teller, check_size, facts_of_change
 from onlylooks.looks import looks_of
-from onlylooks.possible import database_with_fewer
+from onlylooks.possible import database_of
 
 
 def entries_of(change):
@@ -30,37 +31,34 @@ class Couple:
     def __init__(self, rules, one, other):
         both = together(one, other)
         asked = [demands(rules, change) for change in (one, other, both)]
-        self._rules = rules
-        self._looks = looks_of([demand for those in asked for demand in those])
-        check_size(rules, both, self._looks)
-        self._facts = facts_of_change(both)
-        self._databases = databases_by_answer(rules, self._facts, self._looks)
+        told = looks_of([demand for those in asked for demand in those])
+        check_size(rules, both, told)
+        self._schema = rules.schema
+        self._answers = Answers(rules, facts_of_change(both), told)
+        self._rows = self._answers.rows_by_answer()
+        tellers = [[Teller(demand, told) for demand in those] for those in asked]
         self._kept = {
-            answer: tuple([self._are_met(those, answer) for those in asked])
-            for answer in self._databases
+            answer: tuple([all([each.holds(answer) for each in those]) for those in tellers])
+            for answer in self._rows
         }
-
-    def _are_met(self, those, answer):
-        return all([holds_for(demand, self._looks, answer) for demand in those])
 
     def answers(self, is_right):
         """The answers that are right by whether one, other and both would be kept."""
         return [answer for answer, kept in self._kept.items() if is_right(*kept)]
 
-    def _facts_of(self, answer):
-        return [*self._facts, *[fact_of(look, value) for look, value in zip(self._looks, answer)]]
-
     def fewest(self, is_right):
         """A ready database with the fewest rows that gives such an answer; None if there is none."""
         # Those that are known to need few rows come first: they bound the search for others.
-        right = sorted(self.answers(is_right), key=lambda answer: len(self._databases[answer]))
+        right = sorted(self.answers(is_right), key=lambda answer: len(self._rows[answer]))
         least = None
         for answer in right:
             if least is None:
-                least = self._databases[answer].copied()
-            fewer = database_with_fewer(self._rules, self._facts_of(answer), len(least))
+                least = self._rows[answer]
+            fewer = self._answers.fewer_rows(answer, len(least))
             least = least if fewer is None else fewer
-        return least
+        if least is None:
+            return None
+        return database_of(self._schema, self._answers.told_words(), least)
 
 
 def are_spoilt(one, other, both):

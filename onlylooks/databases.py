@@ -1,7 +1,7 @@
 """Databases: a set of rows for each table of a schema [12]."""
 
 from onlylooks.errors import InvalidRow, OtherSchema, UnknownColumn, UnknownTable
-from onlylooks.tables import row_fits
+from onlylooks.tables import checks_of, fits
 
 
 def check_rows(table, values):
@@ -27,14 +27,20 @@ def check_equal(one, other):
 def matching(database, name, words, where):
     """How many rows of a table fit words and fit a where, too, both dicts as [12] tells."""
     table = database.schema[name]
-    rows = [row for row in database[name] if row_fits(table, row, words)]
-    return len([row for row in rows if row_fits(table, row, where)])
+    return len(database.fitting(name, [*checks_of(table, words), *checks_of(table, where)]))
+
+
+def database_with(schema, entries):
+    """The Database with rows of a schema, told by tuples (table, row)."""
+    return Database(schema, _rows={
+        name: {row: True for table, row in entries if table == name} for name in schema.names
+    })
 
 
 class Database:
     """The rows of each table of a schema, at first none."""
 
-    # _rows is for the operators below, which may not fill a database once it is made.
+    # _rows is for operators, which may not fill a database once it is made.
     def __init__(self, schema, *, _rows=None):
         self._schema = schema
         # A dict of rows for each table: it is told at once whether a row is there.
@@ -81,7 +87,15 @@ class Database:
         """The number of rows that fit words: a dict from columns to a word or a list of words."""
         table = self._schema[name]
         check_columns(table, words)
-        return len([row for row in self._rows[name] if row_fits(table, row, words)])
+        return len(self.fitting(name, checks_of(table, words)))
+
+    def fitting(self, name, checks):
+        """The rows that have at each spot one of the words that fit there, in no order that is told."""
+        return [row for row in self._rows[name] if fits(row, checks)]
+
+    def has_row(self, name, row):
+        """Whether a row is there."""
+        return row in self._rows[name]
 
     def copied(self):
         """An equal database that is changed on its own."""

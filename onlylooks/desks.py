@@ -2,9 +2,8 @@
 
 from onlylooks.changes import Change
 from onlylooks.errors import NoLine, Refused
-from onlylooks.fields import Field
 from onlylooks.keeper import CountingHouse
-from onlylooks.plans import depth, plan
+from onlylooks.plans import depth
 from onlylooks.values import is_word
 
 
@@ -69,7 +68,7 @@ class Desk(CountingHouse):
     def _say_of_change(self, verb, change):
         """What do, ask or depth tells of a change."""
         if verb == "depth":
-            return f"{depth(plan(Field(self.rules, change)))}"
+            return f"{depth(self._plan_of(change))}"
         told = self._done(change) if verb == "do" else self(change)
         return f"{told} {len(self.looked)}"
 

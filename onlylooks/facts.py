@@ -74,7 +74,7 @@ class Present(Fact):
     def __call__(self, database):
         """Whether it holds in a database."""
         check_is_of(self, database.schema)
-        return self._row in database[self._table]
+        return database.has_row(self._table, self._row)
 
     def __eq__(self, other):
         if not isinstance(other, Present):
@@ -104,7 +104,7 @@ class Missing(Fact):
     def __call__(self, database):
         """Whether it holds in a database."""
         check_is_of(self, database.schema)
-        return self._row not in database[self._table]
+        return not database.has_row(self._table, self._row)
 
     def __eq__(self, other):
         if not isinstance(other, Missing):

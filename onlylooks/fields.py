@@ -1,21 +1,14 @@
 """The field of a change: all answers that databases give to its looks [52] to [54]."""
 
+from onlylooks.answers import Answers, words_of_look
 from onlylooks.demands import demands, is_met
 from onlylooks.errors import InvalidAnswer, NoAnswer, OutOfRange, TooMany
 from onlylooks.facts import Counted, Missing, Present
 from onlylooks.limits import MAX_ANSWERS
 from onlylooks.looks import index_of, look_ahead, looks_of, other_look
-from onlylooks.possible import any_database, check_wanted
+from onlylooks.possible import check_reaches, database_of
 from onlylooks.statements import Total
 from onlylooks.values import is_integer
-
-
-def words_of_look(look):
-    """The words of a Counted that counts what a look asks for."""
-    words, where = look.words, look.where
-    for column in where:
-        words[column] = list(where[column])
-    return words
 
 
 def fact_of(look, value):
@@ -38,53 +31,29 @@ def check_size(rules, change, told):
         many = many * (look.most + 1)
     if many > MAX_ANSWERS:
         raise TooMany(MAX_ANSWERS)
-    taken = [Present(name, row) for name, row in change.taken_rows]
-    check_wanted(rules, [*taken, *[fact_of(look, look.most) for look in told]])
+    taken = [(name, 1) for name, _ in change.taken_rows]
+    check_reaches(rules, [*taken, *[(look.table, look.most) for look in told]])
 
 
-class Answers:
-    """A search for all answers to looks, with a database for each, where facts hold beside rules."""
-
-    def __init__(self, rules, facts, told):
-        self._rules = rules
-        self._facts = facts
-        self._looks = told
-        self.databases = {}
-
-    def _is_begun(self, begun):
-        """Whether a database gives answers that begin so: one that was met before, or another one."""
-        if any([answer[:len(begun)] == begun for answer in self.databases]):
-            return True
-        counted = [fact_of(look, value) for look, value in zip(self._looks, begun)]
-        database = any_database(self._rules, [*self._facts, *counted])
-        if database is not None:
-            self.databases[tuple([look(database) for look in self._looks])] = database
-        return database is not None
-
-    def go_on(self, begun):
-        """Goes through all answers that begin so; with none of them if no database gives one."""
-        if self._is_begun(begun) and len(begun) < len(self._looks):
-            for value in range(self._looks[len(begun)].most + 1):
-                self.go_on((*begun, value))
+def value_at(index, answer):
+    """What an answer tells of a look with an index; 0 for one that is left out."""
+    return 0 if index is None else answer[index]
 
 
-def databases_by_answer(rules, facts, told):
-    """A dict from all answers to looks, ascending, to a database that gives each one."""
-    search = Answers(rules, facts, told)
-    search.go_on(())
-    return {answer: search.databases[answer] for answer in sorted(list(search.databases))}
+class Teller:
+    """Tells by answers to looks whether a demand holds."""
 
+    def __init__(self, demand, told):
+        ahead, other = look_ahead(demand), other_look(demand)
+        self._demand = demand
+        self._is_total = isinstance(demand.statement, Total)
+        self._ahead = None if ahead is None else index_of(ahead, told)
+        self._other = None if other is None else index_of(other, told)
 
-def value_of(look, told, answer):
-    """What an answer tells of a look; 0 for one that is left out."""
-    return 0 if look is None else answer[index_of(look, told)]
-
-
-def holds_for(demand, told, answer):
-    """Whether a demand holds where the looks that are told have these answers."""
-    is_total = isinstance(demand.statement, Total)
-    many = 1 if is_total else value_of(look_ahead(demand), told, answer)
-    return is_met(demand, many, value_of(other_look(demand), told, answer))
+    def holds(self, answer):
+        """Whether the demand holds where the looks have these answers."""
+        many = 1 if self._is_total else value_at(self._ahead, answer)
+        return is_met(self._demand, many, value_at(self._other, answer))
 
 
 def standing_of(truths):
@@ -110,11 +79,12 @@ class Field:
         self._looks = looks_of(self._demands)
         check_size(rules, change, self._looks)
         self._facts = facts_of_change(change)
-        self._databases = databases_by_answer(rules, self._facts, self._looks)
-        self._truths = {
-            answer: [holds_for(demand, self._looks, answer) for demand in self._demands]
-            for answer in self._databases
-        }
+        answers = Answers(rules, self._facts, self._looks)
+        self._schema = rules.schema
+        self._told_words = answers.told_words()
+        self._rows = answers.rows_by_answer()
+        tellers = [Teller(demand, self._looks) for demand in self._demands]
+        self._truths = {answer: [each.holds(answer) for each in tellers] for answer in self._rows}
 
     @property
     def looks(self):
@@ -133,11 +103,11 @@ class Field:
 
     def answers(self):
         """A list of all answers, ascending."""
-        return list(self._databases)
+        return list(self._rows)
 
     def is_answer(self, value):
         """Whether any value is one of the answers."""
-        return self._is_told(value) and value in self._databases
+        return self._is_told(value) and value in self._rows
 
     def _is_told(self, value):
         """Whether any value is a tuple with an integer from 0 to its most for each look."""
@@ -180,11 +150,11 @@ class Field:
         """A new database that keeps the rules and gives an answer."""
         if not self.is_answer(at):
             raise NoAnswer(at)
-        return self._databases[at].copied()
+        return database_of(self._schema, self._told_words, self._rows[at])
 
     # Without this, Python would go over a field by indexes.
     def __iter__(self):
         raise TypeError("a field is not iterated over")
 
     def __len__(self):
-        return len(self._databases)
+        return len(self._rows)

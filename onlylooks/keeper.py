@@ -8,6 +8,8 @@ from onlylooks.errors import (
     TooMany, Unfit, UnknownColumn, UnknownTable, Unreadable,
 )
 from onlylooks.fields import Field
+from onlylooks.kinds import kind_of
+from onlylooks.looks import looks
 from onlylooks.plans import behind_of, depth, plan
 from onlylooks.rules import check_kept
 from onlylooks.values import is_integer
@@ -23,6 +25,8 @@ class Keeper:
         self._steps = []
         self._looked = []
         self._most_looks = None
+        # The plans of all kinds of changes that were met, None for those that fit no database.
+        self._plans = {}
         # So many steps were done ahead of the attempt that goes on: these stay.
         self._firm = 0
 
@@ -104,14 +108,24 @@ class Keeper:
     def _tell_of(self, change):
         """kept or broken, told by the looks of the plan of a change."""
         self._looked = []
-        field = Field(self._rules, change)
-        part = plan(field)
+        told = looks(self._rules, change)
+        part = self._plan_of(change)
         most = self._most_looks
         if most is not None and depth(part) > most:
             raise TooDear(depth(part))
         while part[0] == "look":
-            part = self._led(part, field.looks[part[1]])
+            part = self._led(part, told[part[1]])
         return part[0]
+
+    def _plan_of(self, change):
+        """The plan of a change: names make no difference to it [73]."""
+        kind = kind_of(change)
+        if kind not in self._plans:
+            field = Field(self._rules, change)
+            self._plans[kind] = None if field.verdict == "unfit" else plan(field)
+        if self._plans[kind] is None:
+            raise NeverFits()
+        return self._plans[kind]
 
     def _led(self, part, question):
         """Asks the look with which a plan begins; the plan behind its answer."""

@@ -106,6 +106,15 @@ def with_parameters(schema, entries, names):
     return made
 
 
+def kind_of(change):
+    """What is told of a change whichever its names are: its entries with parameters in their places."""
+    names = names_of(change)
+    return (
+        tuple(with_parameters(change.schema, change.put_rows, names)),
+        tuple(with_parameters(change.schema, change.taken_rows, names)),
+    )
+
+
 class Template:
     """A kind of change: rows to be put and taken, with parameters in the places of names."""
 
@@ -156,13 +165,10 @@ class Template:
     @classmethod
     def of(cls, change):
         """The template in which the names of a change have become parameters."""
-        names = names_of(change)
-        if len(names) > MAX_NAMES:
+        if len(names_of(change)) > MAX_NAMES:
             raise TooMany(MAX_NAMES)
-        return cls(
-            with_parameters(change.schema, change.put_rows, names),
-            with_parameters(change.schema, change.taken_rows, names),
-        )
+        put, taken = kind_of(change)
+        return cls(put, taken)
 
     def __eq__(self, other):
         if not isinstance(other, Template):

@@ -2,7 +2,7 @@
 
 from onlylooks.databases import matching
 from onlylooks.demands import demands, words_at
-from onlylooks.facts import Counted
+from onlylooks.facts import are_words_of
 from onlylooks.statements import Total, check_is_of, firsts_of, seconds_of
 from onlylooks.values import fresh
 
@@ -101,7 +101,7 @@ class Look:
     def is_of(self, schema):
         """Whether databases of a schema have an answer."""
         words = {**self._words, **self._where}
-        return Counted(self._table, words, 0, None).is_of(schema)
+        return self._table in schema and are_words_of(schema[self._table], words)
 
     def __call__(self, database):
         """The answer of a database."""

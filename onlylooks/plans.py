@@ -17,11 +17,10 @@ def verdicts_of(field):
 
 def parts_of(answers, number):
     """A dict from the values that a look has in answers, ascending, to the answers with each one."""
-    values = sorted(set([answer[number] for answer in answers]))
-    return {
-        value: tuple([answer for answer in answers if answer[number] == value])
-        for value in values
-    }
+    parts = {}
+    for answer in answers:
+        parts.setdefault(answer[number], []).append(answer)
+    return {value: tuple(parts[value]) for value in sorted(list(parts))}
 
 
 class Shortest:

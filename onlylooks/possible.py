@@ -1,7 +1,7 @@
 """What is possible beside rules [31], [32], [36]."""
 
 from onlylooks.asks import Problem
-from onlylooks.databases import Database
+from onlylooks.databases import database_with
 from onlylooks.errors import InvalidFact, TooMany
 from onlylooks.facts import Counted, Long, Missing, Present, Short
 from onlylooks.limits import MAX_WANTED
@@ -42,25 +42,35 @@ def rows_for(fact):
     return []
 
 
+def sum_of_reaches(rules, rows):
+    """The sum of the reaches of tuples (table, how many rows), and of the Totals of rules."""
+    totals = [(each.table, each.least) for each in rules.statements if isinstance(each, Total)]
+    return sum([many * reach(rules, name) for name, many in [*totals, *rows]])
+
+
 def wanted(rules, *facts):
     """The sum of the reaches of all rows that facts and the Totals of rules want."""
     for index, fact in enumerate(facts):
         if not is_fact(fact, rules.schema):
             raise InvalidFact(index)
-    totals = [each for each in rules.statements if isinstance(each, Total)]
-    rows = [
-        *[(total.table, total.least) for total in totals],
-        *[each for fact in facts for each in rows_for(fact)],
-    ]
-    return sum([many * reach(rules, name) for name, many in rows])
+    return sum_of_reaches(rules, [each for fact in facts for each in rows_for(fact)])
+
+
+def check_sum(many):
+    """Raises TooMany if too many rows are wanted; returns how many."""
+    if many > MAX_WANTED:
+        raise TooMany(MAX_WANTED)
+    return many
 
 
 def check_wanted(rules, facts):
     """Raises InvalidFact or TooMany for facts that are not let beside rules; returns what is wanted."""
-    many = wanted(rules, *facts)
-    if many > MAX_WANTED:
-        raise TooMany(MAX_WANTED)
-    return many
+    return check_sum(wanted(rules, *facts))
+
+
+def check_reaches(rules, rows):
+    """Raises TooMany if tuples (table, how many rows) and the Totals of rules want too many rows."""
+    check_sum(sum_of_reaches(rules, rows))
 
 
 def word_of(number):
@@ -86,7 +96,8 @@ def words_of(problem):
 
 def other_words(taken, many):
     """So many different words that are not taken."""
-    words, number = [], 0
+    words = []
+    number = 0
     while len(words) < many:
         if word_of(number) not in taken:
             words.append(word_of(number))
@@ -94,14 +105,13 @@ def other_words(taken, many):
     return words
 
 
-def database_of(schema, problem, rows):
-    """The Database with the rows of a state, open names being words that nothing else is."""
+def database_of(schema, taken, rows):
+    """The Database with the rows of a state, open names being words that are not taken and unlike."""
     names = sorted(set([entry for row in rows for entry in row if is_open(entry)]))
-    words = {name: word for name, word in zip(names, other_words(words_of(problem), len(names)))}
-    database = Database(schema)
-    for name, *entries in rows:
-        database.put(name, tuple([words.get(entry, entry) for entry in entries]))
-    return database
+    words = {name: word for name, word in zip(names, other_words(taken, len(names)))}
+    return database_with(schema, [
+        (name, tuple([words.get(entry, entry) for entry in entries])) for name, *entries in rows
+    ])
 
 
 def searched(rules, facts, is_for_fewest, bound=None):
@@ -111,7 +121,7 @@ def searched(rules, facts, is_for_fewest, bound=None):
     """
     problem = Problem(rules, facts)
     state = Search(problem, is_for_fewest, bound).end()
-    return None if state is None else database_of(rules.schema, problem, state[0])
+    return None if state is None else database_of(rules.schema, words_of(problem), state[0])
 
 
 def any_database(rules, facts):

@@ -1,45 +1,46 @@
 """How many new rows the bounds from above let come in together [32]."""
 
-from onlylooks.states import asked_of, count, counting, fits, is_open, spots
+from onlylooks.states import is_open, roles_of
+from onlylooks.steps import step_of
 
 
-def rooms_there(ask, state, new):
-    """The tuples (room, rows) of an Ask where it counts by now: so many of these new rows may come in."""
-    rows, _ = state
+def own_places(role):
+    """The tuples (ask, place) of the Asks that count a row where it stands itself."""
+    # Open names of new rows are unlike one another, though they are written alike.
     return [
-        (ask.high - count(ask, rows, at), counting(ask, new, asked_of(ask, rows, at)))
-        for at in spots(ask, state)
+        (ask, place) for ask, place in role.homes
+        if ask.slot is None and place in role.places and not [each for each in place[1:] if is_open(each)]
     ]
 
 
-def places_of_new(ask, new):
-    """A dict from what is asked for at new rows to those of them that count where they stand."""
-    places = {}
-    for row in new:
-        if ask.slot is None and ask.home == row[0] and fits(row, ask.home_checks):
-            asked = asked_of(ask, [row], 0)
-            # Open names of new rows are unlike one another, though they are written alike.
-            are_words = not [entry for _, entry in asked if is_open(entry)]
-            if are_words and counting(ask, [row], asked):
-                places.setdefault(asked, []).append(row)
-    return places
+def by_place(told):
+    """The tuples (ask, place, rows) for tuples (ask, place, row), each place once."""
+    found = {}
+    for ask, place, row in told:
+        found.setdefault(place, (ask, place, []))[2].append(row)
+    return list(found.values())
 
 
-def rooms_of(ask, state, new):
-    """The tuples (room, rows) of an Ask: so many of these new rows may come in."""
-    at_new = [
-        (ask.high - len(counting(ask, state[0], asked)), those)
-        for asked, those in places_of_new(ask, new).items()
+def rooms_of(problem, step, new):
+    """The tuples (room, rows) where a bound is known: so many of these new rows may come in."""
+    roles = list(zip(new, roles_of(problem, new)))
+    there = [
+        (step.asks[place], place, row)
+        for row, role in roles for place in role.places if place in step.asks
     ]
-    return [*rooms_there(ask, state, new), *at_new]
+    at_new = [(ask, place, row) for row, role in roles for ask, place in own_places(role)]
+    return [
+        (ask.high - step.many.get(place, 0), those)
+        for ask, place, those in [*by_place(there), *by_place(at_new)]
+        if ask.high is not None
+    ]
 
 
 def most_to_come(problem, state, new):
     """How many new rows may come in at most, of the kinds that are told; None if no bound is known."""
-    bounding = [ask for ask in problem.asks if ask.high is not None]
-    rooms = [room for ask in bounding for room in rooms_of(ask, state, new)]
     left, most = new, 0
     # Each kind has a room among those that are taken: the smallest ones, the widest of these first.
+    rooms = rooms_of(problem, step_of(problem, state), new)
     for room, those in sorted(rooms, key=lambda each: (each[0], -len(each[1]))):
         rest = [row for row in left if row not in those]
         if len(rest) < len(left):

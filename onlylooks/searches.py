@@ -2,28 +2,28 @@
 
 from onlylooks.bounds import Lack, more_rows
 from onlylooks.rooms import is_room_for
-from onlylooks.shapes import shape
-from onlylooks.states import first_state, is_closed, lacks, ways
-from onlylooks.twins import twins_of
+from onlylooks.states import is_passed, lacks_of
+from onlylooks.steps import first_ways, shape_behind, step_of, ways_of
 
 
-def lack_with_ways(problem, state, ask, at, missing):
+def lack_with_ways(problem, step, ask, at, missing):
     """The Lack with its ways, but for those that are known to lead to nothing."""
-    rows, _ = state
-    states = [each for each in ways(problem, state, ask, at) if not is_closed(problem, each)]
-    new = [those[-1] for those, _ in states if len(those) > len(rows)]
-    many = missing - (len(states) - len(new))
-    if many > 1 and not is_room_for(problem, state, many, new):
-        states = []
-    return Lack(ask, at, missing, states)
+    rows, _ = step.state
+    found = [way for way in ways_of(problem, step, ask, at) if not is_passed(way.told)]
+    new = [way.state[0][-1] for way in found if len(way.state[0]) > len(rows)]
+    # Ways without a new row may spare some.
+    many = missing - (len(found) - len(new))
+    if many > 1 and not is_room_for(problem, step.state, many, new):
+        found = []
+    return Lack(ask, at, many, found)
 
 
 def lacks_with_ways(problem, state):
     """The Lacks of a state; one alone if it has no way on."""
-    found = []
-    for ask, at, missing in lacks(problem, state):
-        found.append(lack_with_ways(problem, state, ask, at, missing))
-        if not found[-1].states:
+    step, found = step_of(problem, state), []
+    for ask, at, missing in lacks_of(problem, state, step.told):
+        found.append(lack_with_ways(problem, step, ask, at, missing))
+        if not found[-1].ways:
             return found[-1:]
     return found
 
@@ -37,7 +37,6 @@ class Search:
         self._bound = bound
         # Otherwise there is one pile alone: the search goes straight to an end.
         self._is_for_fewest = is_for_fewest
-        self._twins = twins_of(problem)
         self._piles = {}
         self._seen = {}
 
@@ -57,27 +56,29 @@ class Search:
             del self._piles[rows]
         return state, lacking, rows
 
-    def _meet(self, state, rows):
-        """Has a state wait that comes to so many rows at least, if none like it was met before."""
-        state = shape(state, self._twins)
+    def _meet(self, way, rows):
+        """Has the state behind a way wait that comes to so many rows at least, if none like it was met before."""
+        state = shape_behind(self._problem, way)
         if state not in self._seen:
             self._seen[state] = True
             self._wait(state, None, max([rows, len(state[0])]))
 
     def _go_on(self, state, lacking, rows):
         """Goes on to the states behind the ways of the lack that has the fewest."""
-        need = len(state[0]) + more_rows(lacking, state[0]) if self._is_for_fewest else rows
-        if need > rows:
-            self._wait(state, lacking, need)
-            return
-        for each in min([lack.states for lack in lacking], key=len):
-            self._meet(each, rows)
+        ways = min([lack.ways for lack in lacking], key=len)
+        if ways and self._is_for_fewest:
+            need = len(state[0]) + more_rows(lacking, state[0])
+            if need > rows:
+                self._wait(state, lacking, need)
+                return
+        for way in ways:
+            self._meet(way, rows)
 
     def end(self):
         """A state that lacks nothing and is not closed; None if there is none."""
-        first = first_state(self._problem)
-        if not is_closed(self._problem, first):
-            self._meet(first, 0)
+        for way in first_ways(self._problem):
+            if not is_passed(way.told):
+                self._meet(way, 0)
         while self._piles:
             state, lacking, rows = self._next()
             if lacking is None:

@@ -24,7 +24,10 @@ def places_of_names(rows):
     for number, row in enumerate(rows):
         for spot, entry in enumerate(row):
             if is_open(entry):
-                places.setdefault(entry, []).append((number, spot))
+                if entry in places:
+                    places[entry].append((number, spot))
+                else:
+                    places[entry] = [(number, spot)]
     return places
 
 
@@ -37,33 +40,37 @@ def tags_of(rows, chosen):
     return tags
 
 
-def sketches(rows, tags, colours):
-    """For each row what tells it apart: its tag and its entries, with colours for open names."""
-    return [
-        (tag, *[colours.get(entry, entry) for entry in row])
-        for tag, row in zip(tags, rows)
-    ]
+def with_colours(sketched, rows, colours, numbers):
+    """The sketches with these colours for open names, in the rows with these numbers."""
+    new = list(sketched)
+    for number in numbers:
+        tag = sketched[number][0]
+        new[number] = (tag, *[colours.get(entry, entry) for entry in rows[number]])
+    return new
 
 
-def next_colours(places, sketched):
-    """Colours for open names by the rows in which they stand, as far as these are told apart."""
-    seen = {
-        name: tuple(sorted([(sketched[number], spot) for number, spot in places[name]]))
-        for name in places
-    }
-    ranks = {each: f"{rank}" for rank, each in enumerate(sorted(set(list(seen.values()))))}
-    return {name: ranks[seen[name]] for name in seen}
+def sights_of(places, sketched):
+    """For each open name the tuples (sketch, spot) of where it stands, ascending."""
+    sights = {}
+    for name, those in places.items():
+        seen = [(sketched[number], spot) for number, spot in those]
+        sights[name] = tuple(seen if len(seen) == 1 else sorted(seen))
+    return sights
 
 
-def sketched_to_the_end(rows, chosen):
-    """The sketches of rows when no more open names can be told apart by them."""
-    places, tags = places_of_names(rows), tags_of(rows, chosen)
+def sketched_to_the_end(rows, chosen, places):
+    """For each row what tells it apart, with colours for open names, when these tell no more apart."""
+    numbers = list({number: True for those in places.values() for number, _ in those})
     colours = {name: kind_of(name) for name in places}
-    sketched, many = sketches(rows, tags, colours), 0
-    while len(set(list(colours.values()))) > many:
-        many = len(set(list(colours.values())))
-        colours = next_colours(places, sketched)
-        sketched = sketches(rows, tags, colours)
+    sketched = [(tag, *row) for tag, row in zip(tags_of(rows, chosen), rows)]
+    sketched = with_colours(sketched, rows, colours, numbers)
+    many, more = 0, len(set(list(colours.values())))
+    while more > many:
+        sights = sights_of(places, sketched)
+        ranks = {each: f"{rank}" for rank, each in enumerate(sorted(set(list(sights.values()))))}
+        colours = {name: ranks[sights[name]] for name in sights}
+        sketched = with_colours(sketched, rows, colours, numbers)
+        many, more = more, len(ranks)
     return sketched
 
 
@@ -78,34 +85,35 @@ def words_by_kind(twins):
 
 def names_in_order(rows, twins):
     """What open names become when they are numbered as they first stand; twins get their words so."""
-    names, words = {}, words_by_kind(twins)
+    names, words = {}, words_by_kind(twins) if twins else {}
     for row in rows:
         for entry in row:
             if is_open(entry) and entry not in names:
-                kind = kind_of(entry)
+                kind = kind_of(entry) if twins else ""
                 names[entry] = words[kind].pop(0) if kind else f"{len(names)}"
     return names
 
 
-def in_order(rows, chosen, order):
-    """The state with its rows in an order, told by their numbers."""
+def ordered(rows, chosen, keys):
+    """The state with its rows in the order of the keys that they have."""
+    # Rows with equal keys stay in their order.
+    order = sorted(list(range(len(rows))), key=lambda number: keys[number])
     return (
         tuple([rows[number] for number in order]),
         tuple([None if at is None else order.index(at) for at in chosen]),
     )
 
 
-def ordered(rows, chosen, keys):
-    """The state with its rows in the order of the keys that they have."""
-    order = sorted(list(range(len(rows))), key=lambda number: (keys[number], number))
-    return in_order(rows, chosen, order)
-
-
 def shape(state, twins):
     """A state that differs from this one at most by open names, twins and the order of rows."""
     rows, chosen = state
     rows = veiled(rows, twins)
-    rows, chosen = ordered(rows, chosen, sketched_to_the_end(rows, chosen))
-    names = names_in_order(rows, twins)
-    rows = [tuple([names.get(entry, entry) for entry in row]) for row in rows]
+    places = places_of_names(rows)
+    if len(places) > 1:
+        rows, chosen = ordered(rows, chosen, sketched_to_the_end(rows, chosen, places))
+    if places:
+        names = names_in_order(rows, twins)
+        rows = [tuple([names.get(entry, entry) for entry in row]) for row in rows]
+    if not chosen:
+        return tuple(sorted(rows)), chosen
     return ordered(rows, chosen, rows)

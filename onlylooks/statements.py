@@ -2,7 +2,7 @@
 
 from onlylooks.errors import InvalidRule, OtherSchema
 from onlylooks.limits import MAX_LEAST, MAX_MOST
-from onlylooks.tables import row_fits
+from onlylooks.tables import checks_of
 from onlylooks.values import are_different, are_words, is_integer, is_list, is_word
 
 MAX_PAIRS = 2
@@ -102,7 +102,7 @@ def entries(database, name, columns, where):
     """The entries in some columns of the rows of a table that fit where, a tuple for each row."""
     table = database.schema[name]
     spots = [table.columns.index(column) for column in columns]
-    rows = [row for row in database[name] if row_fits(table, row, where)]
+    rows = database.fitting(name, checks_of(table, where))
     return [tuple([row[spot] for spot in spots]) for row in rows]
 
 

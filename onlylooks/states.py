@@ -4,6 +4,8 @@ A state is a tuple (rows, chosen). A row is a tuple: the name of its table, and 
 it. chosen has the number of the chosen row for each slot, or None.
 """
 
+from onlylooks.tables import fits
+
 
 def is_open(entry):
     """Whether an entry is an open name: these begin with a digit, words with a letter."""
@@ -15,22 +17,6 @@ def first_state(problem):
     return problem.first_rows, (None,) * problem.slots
 
 
-def fits(row, checks):
-    """Whether a row has at each spot one of the words that fit there."""
-    for spot, words in checks:
-        if row[spot] not in words:
-            return False
-    return True
-
-
-def has(row, asked):
-    """Whether a row has at each spot the entry that is asked for there."""
-    for spot, entry in asked:
-        if row[spot] != entry:
-            return False
-    return True
-
-
 def asked_of(ask, rows, at):
     """The tuples (spot, entry) that rows have to have to count at a row; () for a count of all."""
     if at is None:
@@ -39,39 +25,101 @@ def asked_of(ask, rows, at):
     return tuple([(second, home[first]) for first, second in ask.joins])
 
 
-def candidates(ask, rows):
-    """The rows of the table whose rows count."""
-    return [row for row in rows if row[0] == ask.target]
+class Role:
+    """What a row is to Asks, in whichever state it stands."""
+
+    def __init__(self, asks, row):
+        # The places at which it counts: the number of an Ask, and the entries that this asks for.
+        self.places = [
+            (ask.number, *[row[second] for _, second in ask.joins]) for ask in asks
+            if ask.target == row[0] and fits(row, ask.checks)
+        ]
+        # For the Asks that count at it, or may choose it, the tuples (ask, place).
+        self.homes = [
+            (ask, (ask.number, *[row[first] for first, _ in ask.joins])) for ask in asks
+            if ask.home == row[0] and fits(row, ask.home_checks)
+        ]
 
 
-def counting(ask, rows, asked):
-    """The rows that count where these entries are asked for."""
-    target, checks = ask.target, ask.checks
-    return [
-        row for row in rows
-        if row[0] == target and fits(row, checks) and has(row, asked)
-    ]
+def roles_of(problem, rows):
+    """The Roles of rows, in their order."""
+    known = problem.roles
+    for row in rows:
+        if row not in known:
+            known[row] = Role(problem.asks, row)
+    return [known[row] for row in rows]
 
 
-def count(ask, rows, at):
-    """How many rows count at a row, or of all."""
-    return len(counting(ask, rows, asked_of(ask, rows, at)))
+def count_in(many, roles, by):
+    """Counts rows with these Roles at their places, in a dict from places to how many rows count there."""
+    for role in roles:
+        for place in role.places:
+            many[place] = many.get(place, 0) + by
 
 
-def homes(ask, rows):
-    """The numbers of the rows at which an Ask with a home table counts, or from which one is chosen."""
-    home, checks = ask.home, ask.home_checks
-    return [at for at, row in enumerate(rows) if row[0] == home and fits(row, checks)]
+def tally(roles):
+    """A dict from places to how many rows with these Roles count there; what is not in it is 0."""
+    many = {}
+    count_in(many, roles, 1)
+    return many
 
 
-def spots(ask, state):
-    """At which rows an Ask counts: [None] for a count of all, [] while no row is chosen."""
+def sites(problem, roles, chosen):
+    """The tuples (ask, at, place) where Asks count by now, at None for a count of all rows."""
+    found = [(ask, None, (ask.number,)) for ask in problem.totals]
+    for at, role in enumerate(roles):
+        for ask, place in role.homes:
+            if ask.slot is None or chosen[ask.slot] == at:
+                found.append((ask, at, place))
+    return found
+
+
+def in_order(found):
+    """Tuples (ask, at, ..) by the numbers of Asks and of rows."""
+    return sorted(found, key=lambda each: (each[0].number, each[1]))
+
+
+def counts(problem, state):
+    """The tuples (ask, at, how many rows count there) for all places where Asks count by now."""
     rows, chosen = state
-    if ask.home is None:
-        return [None]
-    if ask.slot is None:
-        return homes(ask, rows)
-    return [] if chosen[ask.slot] is None else [chosen[ask.slot]]
+    roles = roles_of(problem, rows)
+    many = tally(roles)
+    return [(ask, at, many.get(place, 0)) for ask, at, place in sites(problem, roles, chosen)]
+
+
+def is_passed(told):
+    """Whether one of some counts is more than the bound from above lets, told by tuples (ask, count)."""
+    for ask, many in told:
+        if ask.high is not None and many > ask.high:
+            return True
+    return False
+
+
+def has_gone_row(problem, state):
+    """Whether a row is there that is to be missing."""
+    for _, row in problem.gone:
+        if row in state[0]:
+            return True
+    return False
+
+
+def is_closed(problem, state):
+    """Whether more rows count somewhere than a bound from above lets, or a missing row is there."""
+    told = [(ask, many) for ask, _, many in counts(problem, state)]
+    return has_gone_row(problem, state) or is_passed(told)
+
+
+def closings(problem, state):
+    """The tuples (number, at) by which a state is closed."""
+    passed = [
+        (ask.number, at) for ask, at, many in in_order(counts(problem, state))
+        if is_passed([(ask, many)])
+    ]
+    back = [
+        (number, at) for number, gone in problem.gone
+        for at, row in enumerate(state[0]) if row == gone
+    ]
+    return [*passed, *back]
 
 
 def is_unchosen(ask, state):
@@ -79,46 +127,16 @@ def is_unchosen(ask, state):
     return ask.slot is not None and state[1][ask.slot] is None
 
 
-def is_closed(problem, state):
-    """Whether more rows count somewhere than a bound from above lets, or a missing row is there."""
-    rows, _ = state
-    for _, row in problem.gone:
-        if row in rows:
-            return True
-    for ask in problem.asks:
-        if ask.high is not None:
-            for at in spots(ask, state):
-                if count(ask, rows, at) > ask.high:
-                    return True
-    return False
-
-
-def closings(problem, state):
-    """The tuples (number, at) by which a state is closed."""
-    rows, _ = state
-    passed = [
-        (ask.number, at) for ask in problem.asks if ask.high is not None
-        for at in spots(ask, state) if count(ask, rows, at) > ask.high
-    ]
-    back = [
-        (number, at) for number, gone in problem.gone
-        for at, row in enumerate(rows) if row == gone
-    ]
-    return [*passed, *back]
+def lacks_of(problem, state, told):
+    """The tuples (ask, at, how many rows are missing) of what a state with these counts lacks."""
+    missing = [(ask, at, ask.low - many) for ask, at, many in told if many < ask.low]
+    choosing = [(ask, None, 1) for ask in problem.choosing if state[1][ask.slot] is None]
+    return in_order([*missing, *choosing])
 
 
 def lacks(problem, state):
     """The tuples (ask, at, how many rows are missing) of what a state lacks."""
-    found = []
-    for ask in problem.asks:
-        if is_unchosen(ask, state):
-            found.append((ask, None, 1))
-        elif ask.low > 0:
-            for at in spots(ask, state):
-                many = count(ask, state[0], at)
-                if many < ask.low:
-                    found.append((ask, at, ask.low - many))
-    return found
+    return lacks_of(problem, state, counts(problem, state))
 
 
 def joined(pairs):
@@ -157,7 +175,7 @@ def rows_by_joining(ask, rows, at):
     """The rows behind each way that makes a row count that is there."""
     asked = asked_of(ask, rows, at)
     found = []
-    for row in candidates(ask, rows):
+    for row in [row for row in rows if row[0] == ask.target]:
         pairs = pairs_to_count(row, ask.checks, asked)
         if pairs is not None:
             becomes = joined(pairs)
@@ -203,7 +221,10 @@ def ways_to_choose(problem, state, ask):
     """The states behind each way to choose a row."""
     rows, chosen = state
     slot = ask.slot
-    old = [(rows, at) for at in homes(ask, rows)]
+    old = [
+        (rows, at) for at, row in enumerate(rows)
+        if row[0] == ask.home and fits(row, ask.home_checks)
+    ]
     new = [
         ((*rows, row), len(rows))
         for row in new_rows(problem.layouts, ask.home, len(rows), ask.home_checks, ())

@@ -38,19 +38,26 @@ def are_tables(values):
     return are_different([value.name for value in values])
 
 
-def row_fits(table, row, words):
-    """Whether a row fits words: a dict from columns to a word or to a list of words [12]."""
-    return all([
-        is_asked(entry, words[column])
-        for column, entry in zip(table.columns, row)
-        if column in words
-    ])
-
-
-def is_asked(entry, asked):
-    """Whether an entry is the word that is asked for, or one of the words."""
+def checks_of(table, words):
+    """The tuples (spot, words that fit there) for words: a dict from columns to a word or a list of words."""
     # A word is not searched for in a word: it may be a part of it.
-    return entry == asked if isinstance(asked, str) else entry in asked
+    return [
+        (table.columns.index(column), (asked,) if isinstance(asked, str) else asked)
+        for column, asked in words.items()
+    ]
+
+
+def fits(row, checks):
+    """Whether a row has at each spot one of the words that fit there."""
+    for spot, words in checks:
+        if row[spot] not in words:
+            return False
+    return True
+
+
+def row_fits(table, row, words):
+    """Whether a row of a table fits words [12]."""
+    return fits(row, checks_of(table, words))
 
 
 class Table:
@@ -103,22 +110,22 @@ class Schema:
         if not are_tables(tables):
             raise InvalidSchema()
         self._tables = tables
+        self._names = tuple([table.name for table in tables])
 
     @property
     def names(self):
         """The names of the tables in order, a tuple."""
-        return tuple([table.name for table in self._tables])
+        return self._names
 
     def __getitem__(self, at):
         """The table of a name."""
-        for table in self._tables:
-            if table.name == at:
-                return table
-        raise UnknownTable(at)
+        if at not in self._names:
+            raise UnknownTable(at)
+        return self._tables[self._names.index(at)]
 
     def __contains__(self, x):
         """Whether any value is the name of a table."""
-        return x in self.names
+        return x in self._names
 
     # Without this, Python would go over a schema by indexes.
     def __iter__(self):

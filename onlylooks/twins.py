@@ -39,9 +39,11 @@ def twins_of(problem):
     The text is written like an open name: a number for the words that may be exchanged for one
     another, then a colon, then the word.
     """
+    columns, kinds, texts = mark_spots(problem), {}, {}
+    if not columns:
+        return texts
     groups, told = groups_of(problem), mentions(problem)
-    kinds, texts = {}, {}
-    for name, spot, marks in mark_spots(problem):
+    for name, spot, marks in columns:
         group = groups[name, spot]
         lists = [words for table, at, words in told if groups.get((table, at)) == group]
         sides = {word: tuple([word in words for words in lists]) for word in marks}

@@ -19,7 +19,8 @@ def is_word(value):
     """Whether any value is a string of 1 to 8 letters from a to z."""
     if not isinstance(value, str) or not 1 <= len(value) <= MAX_WORD:
         return False
-    return all([letter in LETTERS for letter in value])
+    # Letters are taken off at both ends, so what is left has something else in it.
+    return value.strip(LETTERS) == ""
 
 
 def are_words(value, fewest, most):
@@ -57,10 +58,10 @@ def order_key(value):
 
 def fresh(value):
     """Any value, with new lists and dicts for those in it, and keys in ascending order."""
+    if not isinstance(value, (list, tuple, dict)):
+        return value
     if isinstance(value, list):
         return [fresh(each) for each in value]
     if isinstance(value, tuple):
         return tuple([fresh(each) for each in value])
-    if isinstance(value, dict):
-        return {key: fresh(value[key]) for key in sorted(list(value), key=order_key)}
-    return value
+    return {key: fresh(value[key]) for key in sorted(list(value), key=order_key)}
