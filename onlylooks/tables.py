@@ -119,9 +119,10 @@ class Schema:
 
     def __getitem__(self, at):
         """The table of a name."""
-        if at not in self._names:
-            raise UnknownTable(at)
-        return self._tables[self._names.index(at)]
+        for name, table in zip(self._names, self._tables):
+            if name == at:
+                return table
+        raise UnknownTable(at)
 
     def __contains__(self, x):
         """Whether any value is the name of a table."""

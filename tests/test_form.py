@@ -30,6 +30,8 @@ BARRED = set(
     "register mro elements open input law version_info with_traceback add_note attrgetter "
     "breakpoint builtins compile copyright credits delattr dir eval exec exit gc getattr globals "
     "hasattr help id importlib license locals methodcaller os quit setattr type vars".split())
+CHANGING = set(
+    "append clear extend insert pop remove reverse setdefault update sort add discard put take".split())
 STATEMENTS = (
     ast.Assign, ast.AugAssign, ast.If, ast.While, ast.For, ast.Return, ast.Break, ast.Continue,
     ast.Pass, ast.Raise, ast.Assert, ast.Delete, ast.Nonlocal, ast.With, ast.Try, ast.Expr,
@@ -54,6 +56,85 @@ def nodes(*kinds):
 def own_names():
     """The names of all functions, methods and classes of the package."""
     return {node.name for _, node in nodes(ast.FunctionDef, ast.ClassDef)}
+
+
+def is_property(node):
+    return "property" in [ast.unparse(each) for each in node.decorator_list]
+
+
+@functools.cache
+def methods_by_name():
+    """A dict from the names of methods to the tuples (file, class, method)."""
+    found = {}
+    for name, tree in trees():
+        for kind in [each for each in tree.body if isinstance(each, ast.ClassDef)]:
+            for each in [each for each in kind.body if isinstance(each, ast.FunctionDef)]:
+                found.setdefault(each.name, []).append((name, kind.name, each))
+    return found
+
+
+@functools.cache
+def functions():
+    """A dict from the tuples (file, name) to the functions of all modules."""
+    return {(name, each.name): each for name, tree in trees() for each in tree.body
+            if isinstance(each, ast.FunctionDef)}
+
+
+def bound_in(name):
+    """A dict from the names that a file binds to the tuples (file, name) of where they are defined."""
+    tree = dict(trees())[name]
+    found = {each.name: (name, each.name) for each in tree.body if hasattr(each, "name")}
+    for each in [each for each in tree.body if isinstance(each, ast.ImportFrom)]:
+        found.update({alias.name: (each.module.split(".")[1] + ".py", alias.name) for alias in each.names})
+    return found
+
+
+def named_by(name, node):
+    """The tuples (file, function) that a function may call: those whose names stand in it."""
+    bound, found = bound_in(name), []
+    for each in ast.walk(node):
+        if isinstance(each, ast.Name) and each.id in bound:
+            place = bound[each.id]
+            if place in functions():
+                found.append((place[0], functions()[place]))
+            found += [(file, made) for file, kind, made in methods_by_name()["__init__"] if (file, kind) == place]
+        if isinstance(each, ast.Attribute):
+            found += [(file, told) for file, _, told in methods_by_name().get(each.attr, [])]
+    return found
+
+
+@functools.cache
+def quiet():
+    """The tuples (file, function) of all operators and properties, and of what they may call."""
+    loud = ("__init__", "__call__", "__enter__", "__exit__")
+    waiting = [(file, each) for those in methods_by_name().values() for file, _, each in those
+               if is_property(each) or (each.name.startswith("__") and each.name not in loud)]
+    found = []
+    while waiting:
+        file, node = waiting.pop()
+        if not any(node is each for _, each in found):
+            found.append((file, node))
+            waiting += named_by(file, node)
+    return found
+
+
+def held_names():
+    """The names of all attributes and properties of the package."""
+    stored = {node.attr for _, node in nodes(ast.Attribute) if isinstance(node.ctx, ast.Store)}
+    return stored | {node.name for _, node in nodes(ast.FunctionDef) if is_property(node)}
+
+
+def local_names(node):
+    """The names of the parameters and variables of a function."""
+    return ({each.arg for each in ast.walk(node) if isinstance(each, ast.arg)}
+            | {each.id for each in ast.walk(node) if isinstance(each, ast.Name) and isinstance(each.ctx, ast.Store)})
+
+
+def own_lists(node):
+    """The names of the variables of a function that are made by list literals or comprehensions."""
+    return {target.id for each in ast.walk(node) if isinstance(each, ast.Assign)
+            for target in each.targets if isinstance(target, ast.Name)
+            and isinstance(each.value, (ast.List, ast.ListComp))}
 
 
 class FormTest(unittest.TestCase):
@@ -218,6 +299,41 @@ class FormTest(unittest.TestCase):
             if node.exc is not None:
                 self.assertIsInstance(node.exc, ast.Call, where)
                 self.assertIsInstance(node.exc.func, ast.Name, where)
+
+    def test_operators_and_properties_call_nothing_that_is_held(self):
+        """A call of a name that is also an attribute reads as a call of what an object holds."""
+        held = held_names()
+        for file, node in quiet():
+            passed = local_names(node)
+            for each in [each for each in ast.walk(node) if isinstance(each, ast.Call)]:
+                where = (file, each.lineno)
+                self.assertIsInstance(each.func, (ast.Name, ast.Attribute), where)
+                if isinstance(each.func, ast.Attribute):
+                    self.assertNotIn(each.func.attr, held, where)
+                else:
+                    self.assertNotIn(each.func.id, held | passed, where)
+
+    def test_operators_and_properties_change_nothing(self):
+        for file, node in quiet():
+            lists = own_lists(node)
+            for each in ast.walk(node):
+                where = (file, node.name, getattr(each, "lineno", None))
+                if isinstance(each, ast.Call) and isinstance(each.func, ast.Attribute) and each.func.attr in CHANGING:
+                    self.assertIsInstance(each.func.value, ast.Name, where)
+                    self.assertIn(each.func.value.id, lists, where)
+                if isinstance(each, ast.AugAssign):
+                    self.assertIsInstance(each.value, ast.Constant, where)
+                # These make an object, or are there to change it.
+                if node.name not in ("__init__", "__setitem__", "__ior__"):
+                    if isinstance(each, (ast.Attribute, ast.Subscript)):
+                        self.assertIsInstance(each.ctx, ast.Load, where)
+
+    def test_what_operators_and_properties_call_is_found(self):
+        found = {(file, node.name) for file, node in quiet()}
+        for each in [("tables.py", "__getitem__"), ("possible.py", "word_of"), ("values.py", "order_key"),
+                     ("rules.py", "leads_back"), ("databases.py", "copied"), ("facts.py", "is_row_of")]:
+            self.assertIn(each, found)
+        self.assertNotIn(("searches.py", "end"), found)
 
     def test_len_and_items(self):
         for where, node in nodes(ast.ClassDef):
